@@ -1,0 +1,1 @@
+"""Otherfirst: tasks of one or two nodes, and no task twice running."""

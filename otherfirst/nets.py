@@ -1,0 +1,139 @@
+"""Nets: nodes, and tasks with one or two of them as ends."""
+
+from otherfirst.checks import check_node, check_task
+from otherfirst.errors import InvalidLine, InvalidNodes, InvalidTasks, NotAnEnd
+from otherfirst.kinds import MOST_NODES, MOST_TASKS, is_count, is_index, is_integer, is_row, is_tuple_of
+from otherfirst.kinds import read_decimal
+
+
+class Net:
+    """Nodes and tasks. A net is never changed."""
+
+    def __init__(self, nodes, tasks):
+        if not _is_nodes(nodes):
+            raise InvalidNodes(nodes)
+        if not _is_tasks(nodes, tasks):
+            raise InvalidTasks(tasks)
+        self.nodes = nodes
+        self.tasks = tuple(tasks)
+        self._ends = tuple([tuple([end[0] for end in task]) for task in self.tasks])
+        self._marks = tuple([tuple(_marks_of(self.tasks, node)) for node in range(nodes)])
+
+    def __len__(self):
+        return len(self.tasks)
+
+    def __eq__(self, other):
+        return isinstance(other, Net) and self.nodes == other.nodes and self.tasks == other.tasks
+
+    def ends(self, task):
+        """The nodes that a task is at, ascending."""
+        check_task(self, task)
+        return self._ends[task]
+
+    def at(self, node):
+        """The tasks at a node, ascending."""
+        check_node(self, node)
+        return [task for task, _ in self._marks[node]]
+
+    def marks(self, node):
+        """A tuple (task, minds) for each task at a node of the net, ascending."""
+        return self._marks[node]
+
+    def far(self, task, node):
+        """The other end of a shared task, None for an own task."""
+        self._check_end(task, node)
+        ends = self._ends[task]
+        if len(ends) == 1:
+            return None
+        return ends[1] if node == ends[0] else ends[0]
+
+    def minds(self, task, node):
+        self._check_end(task, node)
+        return (node, True) in self.tasks[task]
+
+    def line(self):
+        words = ["".join([_end_word(end) for end in task]) for task in self.tasks]
+        return " ".join([f"{self.nodes}:"] + words)
+
+    def _check_end(self, task, node):
+        check_task(self, task)
+        check_node(self, node)
+        if node not in self._ends[task]:
+            raise NotAnEnd(task, node)
+
+
+def is_load(net, value):
+    """Whether any value is a load of the net: a count for each task."""
+    if not is_row(value) or len(value) != len(net):
+        return False
+    return all([is_count(item) for item in value])
+
+
+def is_lasts(net, value):
+    """Whether any value is lasts of the net: None or a task at it for each node."""
+    if not is_row(value) or len(value) != net.nodes:
+        return False
+    return all([_is_last(net, node, item) for node, item in enumerate(value)])
+
+
+def read_net(line):
+    """The net that has this line."""
+    if not isinstance(line, str):
+        raise InvalidLine(line)
+    head, colon, rest = line.partition(":")
+    nodes = read_decimal(head)
+    blank, *words = rest.split(" ")
+    if colon == "" or blank != "" or not _is_nodes(nodes):
+        raise InvalidLine(line)
+    tasks = [_read_task(word) for word in words]
+    if not _is_tasks(nodes, tasks):
+        raise InvalidLine(line)
+    return Net(nodes, tasks)
+
+
+def _is_nodes(value):
+    return is_integer(value) and 1 <= value <= MOST_NODES
+
+
+def _is_tasks(nodes, value):
+    if not is_row(value) or len(value) > MOST_TASKS:
+        return False
+    return all([_is_task(nodes, task) for task in value])
+
+
+def _is_task(nodes, value):
+    if not is_tuple_of(value, 1) and not is_tuple_of(value, 2):
+        return False
+    if not all([_is_end(nodes, end) for end in value]):
+        return False
+    return len(value) == 1 or value[0][0] < value[1][0]
+
+
+def _is_end(nodes, value):
+    return is_tuple_of(value, 2) and is_index(value[0], nodes) and isinstance(value[1], bool)
+
+
+def _is_last(net, node, value):
+    return value is None or (is_index(value, len(net)) and node in net.ends(value))
+
+
+def _marks_of(tasks, node):
+    return [(at, minds) for at, task in enumerate(tasks) for end, minds in task if end == node]
+
+
+def _end_word(end):
+    node, minds = end
+    return f"{node}!" if minds else f"{node}?"
+
+
+def _read_task(word):
+    """The ends that a word writes; what is written amiss becomes no task of any net."""
+    ends = []
+    digits = ""
+    for sign in word:
+        if sign in ("!", "?"):
+            ends.append((read_decimal(digits), sign == "!"))
+            digits = ""
+        else:
+            digits = digits + sign
+    return tuple(ends) if digits == "" else None

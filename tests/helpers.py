@@ -1,0 +1,131 @@
+"""What the tests share: judges of equal values, of refusals, and values of all kinds."""
+
+import random
+import unittest
+
+from otherfirst.errors import InvalidNode, OtherError
+from otherfirst.nets import Net
+from otherfirst.states import State
+
+# The net of the examples in the document.
+ROW = Net(3, [((0, True), (1, True)), ((1, True), (2, False)), ((2, True),)])
+# Three nodes, each two of which share a task that both mind.
+TRIANGLE = Net(3, [((0, True), (1, True)), ((1, True), (2, True)), ((0, True), (2, True))])
+PAIR = Net(2, [((0, True), (1, True)), ((0, True), (1, True))])
+EMPTY = Net(2, [])
+LONG = 10 ** 20 - 1
+
+
+def any_values():
+    """Values of all kinds that a judge can be asked about, and some more."""
+    deep = 0
+    for _ in range(8):
+        deep = [deep]
+    state = State(ROW, [1, 1, 1])
+    return [
+        None, True, False, 0, 1, 2, -1, 3, 99, 100, LONG, -LONG, "", "0", "run", "often", "ring", "3:", "/",
+        [], (), {}, {"a": 1}, {"a": [1, {"b": ()}]}, [None], (None,), [0], (0,), [True], [[]], [()], ([],),
+        [0, 1], (0, 1), [[0, 1]], [(0, 1)], ((0, 1),), [("0", 1)], [(0, 1, 2)], [None, None, None], [1, 1, 1],
+        ("often",), ("ring",), ("often", 0), ("ring", None), ("ring", []), ("often", 0, 0), ["ring", []],
+        ("often", None, None), ("ring", [], []), ("bare", 0), ("ask", "run", 0, 1, 0), ("yes", "run", [], {}, None),
+        ([], {}, None, "", ()), deep, tuple(deep), [deep, deep], ROW, state, [state], (ROW, state), [ROW, 1],
+        InvalidNode(0), [InvalidNode(0)], 1.0, [1.0, 1.0, 1.0], b"3:", object(),
+    ]
+
+
+def same(one, other):
+    """Whether two values are equal, and of the same kind at every place."""
+    if type(one) is not type(other):
+        return False
+    if isinstance(one, (list, tuple)):
+        return len(one) == len(other) and all(same(a, b) for a, b in zip(one, other))
+    return one == other
+
+
+class Case(unittest.TestCase):
+    def agree(self, got, wanted):
+        self.assertTrue(same(got, wanted), f"got {got!r}, not {wanted!r}")
+
+    def refuses(self, error, attributes, call, *args, **named):
+        """The call raises just this error with just these attributes."""
+        with self.assertRaises(OtherError) as caught:
+            call(*args, **named)
+        self.assertIs(type(caught.exception), error)
+        self.assertEqual(sorted(vars(caught.exception)), sorted(attributes))
+        for name, value in attributes.items():
+            self.agree(getattr(caught.exception, name), value)
+        return caught.exception
+
+    def refuses_all(self, error, values, call):
+        """The call raises this error for each value, with this very value in `given`."""
+        for value in values:
+            with self.assertRaises(OtherError) as caught:
+                call(value)
+            self.assertIs(type(caught.exception), error, repr(value))
+            self.assertIs(caught.exception.given, value)
+
+    def new_each_time(self, call):
+        """The call returns an equal list each time, which nobody else keeps."""
+        first = call()
+        self.assertIs(type(first), list)
+        kept = [item for item in first]
+        second = call()
+        self.assertEqual(second, kept)
+        self.assertIsNot(second, first)
+        second.append("changed")
+        self.assertEqual(first, kept)
+        self.assertEqual(call(), kept)
+
+
+def no_tasks_of(net):
+    """Values that are no tasks of a net."""
+    return [None, True, False, -1, len(net), LONG, "0", [0], (0,), {}, {"a": 0}, net, 0.0]
+
+
+def no_nodes_of(net):
+    """Values that are no nodes of a net."""
+    return [None, True, False, -1, net.nodes, LONG, "0", [0], (0,), {}, {"a": 0}, net, 0.0]
+
+
+def no_schedules_of(net):
+    """Values that are no schedules of a net, run or not; the net has a task."""
+    return [None, True, 0, "", "0", {}, {"a": 0}, net, [None], [True], [False], (True,), [-1], [len(net)],
+            ["0"], [[0]], [(0,)], [0, 0.0], [0] * 401, (0,) * 401]
+
+
+def random_net(rng, most_nodes=4, most_tasks=5):
+    nodes = rng.randint(1, most_nodes)
+    tasks = []
+    for _ in range(rng.randint(0, most_tasks)):
+        if nodes > 1 and rng.random() < 0.75:
+            one, other = sorted(rng.sample(range(nodes), 2))
+            tasks.append(((one, rng.random() < 0.8), (other, rng.random() < 0.8)))
+        else:
+            tasks.append(((rng.randrange(nodes), rng.random() < 0.7),))
+    return Net(nodes, tasks)
+
+
+def random_lasts(rng, net, none=0.4):
+    return [None if rng.random() < none else rng.choice([None] + net.at(node)) for node in range(net.nodes)]
+
+
+def random_state(rng, most_nodes=4, most_tasks=5, most_left=2, none=0.4):
+    net = random_net(rng, most_nodes, most_tasks)
+    load = [rng.randint(0, most_left) for _ in range(len(net))]
+    return State(net, load, random_lasts(rng, net, none))
+
+
+def random_states(seed, number, **limits):
+    rng = random.Random(seed)
+    return [random_state(rng, **limits) for _ in range(number)]
+
+
+def all_states(net, most_left):
+    """All states of a net in which no task is left more often than that."""
+    loads = [[]]
+    for _ in range(len(net)):
+        loads = [load + [count] for load in loads for count in range(most_left + 1)]
+    lasts = [[]]
+    for node in range(net.nodes):
+        lasts = [row + [last] for row in lasts for last in [None] + net.at(node)]
+    return [State(net, load, row) for load in loads for row in lasts]

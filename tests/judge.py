@@ -1,0 +1,97 @@
+"""A search of all rows of runs, which knows of the program only what a net, a load and lasts are."""
+
+
+def moves(net, load, lasts):
+    """The tasks that can be run, by the words of point [4]."""
+    found = []
+    for task, ends in enumerate(net.tasks):
+        barred = [node for node, minds in ends if minds and lasts[node] == task]
+        if load[task] > 0 and not barred:
+            found.append(task)
+    return found
+
+
+def behind(net, load, lasts, task):
+    """The load and the lasts behind a run."""
+    nodes = [node for node, _ in net.tasks[task]]
+    load = tuple(left - 1 if other == task else left for other, left in enumerate(load))
+    lasts = tuple(task if node in nodes else last for node, last in enumerate(lasts))
+    return load, lasts
+
+
+class Search:
+    """All complete schedules of the states of one net."""
+
+    def __init__(self, net):
+        self.net = net
+        self.known = {}
+
+    def least(self, load, lasts):
+        """The least complete schedule, or None if there is none."""
+        key = (tuple(load), tuple(lasts))
+        if key not in self.known:
+            self.known[key] = self._least(*key)
+        return self.known[key]
+
+    def _least(self, load, lasts):
+        if sum(load) == 0:
+            return []
+        for task in moves(self.net, load, lasts):
+            rest = self.least(*behind(self.net, load, lasts, task))
+            if rest is not None:
+                return [task] + rest
+        return None
+
+    def keeping(self, load, lasts):
+        """The tasks that can be run and behind which there still is a complete schedule."""
+        tasks = moves(self.net, load, lasts)
+        return [task for task in tasks if self.least(*behind(self.net, load, lasts, task)) is not None]
+
+    def all(self, load, lasts):
+        """All complete schedules, ascending."""
+        if sum(load) == 0:
+            return [[]]
+        found = []
+        for task in moves(self.net, load, lasts):
+            for rest in self.all(*behind(self.net, load, lasts, task)):
+                found.append([task] + rest)
+        return found
+
+
+def shortest_pasts(net):
+    """For each lasts that some runs leave, from fresh ones, all the shortest rows of such runs."""
+    endless = (1,) * len(net)
+    fresh = (None,) * net.nodes
+    found = {fresh: [[]]}
+    border = {fresh: [[]]}
+    while border:
+        further = {}
+        for lasts, rows in border.items():
+            for task in moves(net, endless, lasts):
+                _, reached = behind(net, endless, lasts, task)
+                if reached not in found:
+                    further.setdefault(reached, []).extend(row + [task] for row in rows)
+        found.update(further)
+        border = further
+    return found
+
+
+def all_lasts(net):
+    """All lasts of a net."""
+    rows = [()]
+    for node in range(net.nodes):
+        at = [task for task, ends in enumerate(net.tasks) if node in [end for end, _ in ends]]
+        rows = [row + (last,) for row in rows for last in [None] + at]
+    return rows
+
+
+def all_rows(net, longest):
+    """All lists of tasks, up to a length, that can be run from fresh lasts without end, with the lasts behind them."""
+    endless = (1,) * len(net)
+    level = [([], (None,) * net.nodes)]
+    found = list(level)
+    for _ in range(longest):
+        level = [(row + [task], behind(net, endless, lasts, task)[1])
+                 for row, lasts in level for task in moves(net, endless, lasts)]
+        found += level
+    return found

@@ -4,8 +4,10 @@ import random
 import unittest
 
 from otherfirst.errors import InvalidNode, OtherError
+from otherfirst.exchanges import Exchange
 from otherfirst.nets import Net
 from otherfirst.states import State
+from otherfirst.stations import Station
 
 # The net of the examples in the document.
 ROW = Net(3, [((0, True), (1, True)), ((1, True), (2, False)), ((2, True),)])
@@ -29,7 +31,7 @@ def any_values():
         ("often",), ("ring",), ("often", 0), ("ring", None), ("ring", []), ("often", 0, 0), ["ring", []],
         ("often", None, None), ("ring", [], []), ("bare", 0), ("ask", "run", 0, 1, 0), ("yes", "run", [], {}, None),
         ([], {}, None, "", ()), deep, tuple(deep), [deep, deep], ROW, state, [state], (ROW, state), [ROW, 1],
-        InvalidNode(0), [InvalidNode(0)], 1.0, [1.0, 1.0, 1.0], b"3:", object(),
+        Station(0, []), Exchange(state), InvalidNode(0), [InvalidNode(0)], 1.0, [1.0, 1.0, 1.0], b"3:", object(),
     ]
 
 

@@ -71,5 +71,89 @@ class StageOneExamples(Case):
         self.agree([is_ring(state, [(1, 1), (2, 2), (0, 0)]), is_ring(state, [(0, 0), (2, 2), (1, 1)])], [True, False])
 
 
+class StageTwoExamples(Case):
+    def test_decide(self):
+        from otherfirst.decide import can_be_done, defect, is_defect, keeping, schedule_of
+        from otherfirst.errors import Impossible
+        from otherfirst.nets import Net
+        from otherfirst.states import State
+        net = Net(4, [((0, True), (1, True)), ((1, True), (2, True)), ((2, True), (3, True))])
+        state = State(net, [1, 2, 1])
+        self.agree([can_be_done(state), defect(state), keeping(state),
+                    keeping(State(net, [1, 1, 1], [None, 1, 1, None]))], [True, None, [1], [0, 2]])
+        other = State(net, [1, 3, 1])
+        self.agree([defect(other), is_defect(other, ('often', 2, 1)), is_defect(other, ('often', 2, 2)),
+                    keeping(other)], [('often', 1, 1), True, False, []])
+        self.refuses(Impossible, {"defect": ('often', 1, 1)}, schedule_of, other)
+
+    def test_leasts(self):
+        from otherfirst.errors import NotLeast, NotStuck
+        from otherfirst.leasts import held_up, is_why_least, least_schedule, stuck, why_least
+        from otherfirst.nets import Net
+        from otherfirst.states import State
+        net = Net(4, [((0, True), (1, True)), ((1, True), (2, True)), ((2, True), (3, True))])
+        state = State(net, [1, 2, 1])
+        self.agree([least_schedule(state), why_least(state, [1, 0, 2, 1])], [[1, 0, 2, 1], [(0, 0, 1), (2, 1, 2)]])
+        self.refuses(NotLeast, {"at": 1, "task": 0}, why_least, state, [1, 2, 0, 1])
+        self.agree([is_why_least(state, [1, 0, 2, 1], [(0, 0, 1), (2, 1, 2)]),
+                    is_why_least(state, [1, 2, 0, 1], [])], [True, False])
+        self.agree([stuck(state), held_up(State(net, [1, 1, 0], [0, 1, None, None]))], [False, [(0, 0), (1, 1)]])
+        self.refuses(NotStuck, {"task": 0}, held_up, state)
+
+    def test_stations(self):
+        from otherfirst.errors import NotAsking
+        from otherfirst.stations import Station, is_letter
+        low = Station(0, [(0, 1, True, 1)])
+        high = Station(1, [(0, 0, True, 1), (1, None, True, 1)])
+        self.agree([low.open_tasks(), high.open_tasks(), high.addable()], [[0], [0, 1], [0, 1]])
+        self.agree(high.tick(), [('ask', 'run', 0, 1, 0)])
+        self.agree([is_letter(low, ('ask', 'run', 0, 1, 0)), is_letter(low, ('yes', 'run', 0, 1, 0))], [True, False])
+        self.agree(low.take(('ask', 'run', 0, 1, 0)), [('yes', 'run', 0, 1, 1)])
+        self.agree([low.held, low.tick()], [('run', 0, 1), [('yes', 'run', 0, 1, 1)]])
+        self.agree(high.take(('yes', 'run', 0, 1, 1)), [('done', 'run', 0, 1, 0)])
+        self.agree([high.take(('yes', 'run', 0, 1, 1)), high.log(), high.knows()],
+                   [[('done', 'run', 0, 1, 0)], [('run', 1), ('run', 0)], (0, None, ((0, 0, 0), (1, 0, 0)))])
+        self.agree([low.take(('done', 'run', 0, 1, 0)), low.log(), low.decided(), low.held],
+                   [[], [('run', 0)], [], None])
+        self.refuses(NotAsking, {"task": 0}, low.order, 0)
+
+    def test_exchanges(self):
+        from otherfirst.errors import Impossible
+        from otherfirst.exchanges import Exchange
+        from otherfirst.nets import Net
+        from otherfirst.states import State
+        net = Net(2, [((0, True), (1, True)), ((1, True),)])
+        exchange = Exchange(State(net, [1, 1]))
+        self.agree(exchange.tick(0), None)
+        self.agree(exchange.tick(1), None)
+        self.agree([exchange.letters(), exchange.history()], [[('ask', 'run', 0, 1, 0)], [('run', 1)]])
+        self.agree(exchange.deliver(0), None)
+        self.agree(exchange.deliver(0), None)
+        self.agree([exchange.letters(), exchange.history()], [[('done', 'run', 0, 1, 0)], [('run', 1), ('run', 0)]])
+        self.agree([exchange.knows(0), exchange.present().lasts], [(None, ('run', 0, 1), ((0, 1, 0),)), (0, 0)])
+        self.agree(exchange.lose(0), None)
+        self.agree([exchange.settle(), exchange.knows(0), exchange.present().load], [2, (0, None, ((0, 0, 0),)), (0, 0)])
+        self.refuses(Impossible, {"defect": ('often', 0, 0)}, Exchange, State(net, [2, 0]))
+
+    def test_lasts(self):
+        from otherfirst.lasts import circle_of, is_true, looks, why_false
+        from otherfirst.nets import Net
+        net = Net(3, [((0, True), (1, True)), ((1, True), (2, False)), ((0, True), (2, True)), ((2, True),)])
+        self.agree([looks(net, [0, 1, 3]), is_true(net, [0, 1, 3]), looks(net, [None, 1, 1])],
+                   [[1, 2, 2], True, [None, 2, 1]])
+        self.agree([why_false(net, [0, 1, None]), circle_of(net, [0, 1, 2])], [('bare', 1), [(0, 0), (1, 1), (2, 2)]])
+
+    def test_pasts(self):
+        from otherfirst.errors import NeverAhead
+        from otherfirst.nets import Net
+        from otherfirst.pasts import count_pasts, is_past, past_of, past_with, sure_order
+        net = Net(4, [((0, True), (1, True)), ((1, True), (2, True)), ((2, True), (3, True))])
+        self.agree([past_of(net, [0, 1, 1, None]), count_pasts(net, [0, 0, 2, 2]), sure_order(net, [0, 1, 1, None])],
+                   [[0, 1], 2, [(0, 1), (0, 2)]])
+        self.agree([past_with(net, [0, 0, 2, 2], 3, 1), is_past(net, [0, 0, 2, 2], (1, 0, 2)),
+                    is_past(net, [0, 0, 2, 2], [0, 1, 0, 2])], [[2, 0], True, False])
+        self.refuses(NeverAhead, {"way": [0, 1, 2]}, past_with, net, [0, 1, 1, None], 2, 0)
+
+
 if __name__ == "__main__":
     unittest.main()

@@ -23,6 +23,33 @@ INTERFACE = {
         "own_row": "net schedule node", "wastes": "state schedule node task",
     },
     "rings": {"rings": "state", "is_ring": "state value"},
+    "decide": {
+        "can_be_done": "state", "defect": "state", "is_defect": "state value", "schedule_of": "state",
+        "keeping": "state",
+    },
+    "leasts": {
+        "least_schedule": "state", "why_least": "state schedule", "is_why_least": "state schedule value",
+        "stuck": "state", "held_up": "state",
+    },
+    "stations": {
+        "Station": "number rows * last=None", "Station.left": "task", "Station.wanted": "task", "Station.open_tasks": "",
+        "Station.addable": "", "Station.order": "task", "Station.take": "letter", "Station.tick": "",
+        "Station.fall": "", "Station.forget": "", "Station.log": "", "Station.decided": "", "Station.knows": "",
+        "station_of": "state node", "is_letter": "station value",
+    },
+    "exchanges": {
+        "Exchange": "state", "Exchange.letters": "", "Exchange.deliver": "at", "Exchange.lose": "at",
+        "Exchange.double": "at", "Exchange.tick": "node", "Exchange.fall": "node", "Exchange.forget": "node",
+        "Exchange.order": "task", "Exchange.history": "", "Exchange.present": "", "Exchange.knows": "node",
+        "Exchange.log": "node", "Exchange.wanted": "", "Exchange.settle": "",
+    },
+    "lasts": {
+        "looks": "net lasts", "circle_of": "net lasts", "why_false": "net lasts", "is_true": "net lasts",
+    },
+    "pasts": {
+        "past_of": "net lasts", "is_past": "net lasts value", "count_pasts": "net lasts", "sure_order": "net lasts",
+        "past_with": "net lasts node other",
+    },
 }
 
 

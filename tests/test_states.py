@@ -179,6 +179,12 @@ class StateLineTest(Case):
         self.assertEqual(read_state(net, "0 " * 100 + "/ 99 -"), state)
         self.refuses(InvalidLine, {"given": "0 " * 100 + "/ 100 -"}, read_state, net, "0 " * 100 + "/ 100 -")
 
+    def test_a_long_line(self):
+        net = Net(24, [((0, True), (23, True))] * 100)
+        state = State(net, [LONG - task for task in range(100)], [99] + [None] * 22 + [10])
+        self.agree(len(state.line()), 100 * 21 + 1 + 3 + 22 * 2 + 3)
+        self.assertEqual(read_state(net, state.line()), state)
+
     def test_no_lines(self):
         wrong = [
             "", " ", "/", "2 1 0", "2 1 0 /", "2 1 0 / - 0", "2 1 0 / - 0 2 -", "2 1 / - 0 2", "2 1 0 0 / - 0 2",

@@ -31,13 +31,18 @@ def is_defect(state, value):
     return is_tuple_of(value, 2) and value[0] == "ring" and is_ring(state, value[1])
 
 
+def check_possible(state):
+    """Raises an error unless the state can be done."""
+    found = defect(state)
+    if found is not None:
+        raise Impossible(found)
+
+
 def check_doable(state):
     """Raises an error unless the state can be done and its runs can be listed."""
     if state.total() > MOST_RUNS:
         raise TooMany(state.total())
-    found = defect(state)
-    if found is not None:
-        raise Impossible(found)
+    check_possible(state)
 
 
 def schedule_of(state):

@@ -1,13 +1,8 @@
 """Lasts: which of them some runs can leave."""
 
 from otherfirst.cycles import cycles
-from otherfirst.errors import FalseLasts, InvalidLasts
-from otherfirst.nets import is_lasts
-
-
-def check_lasts(net, lasts):
-    if not is_lasts(net, lasts):
-        raise InvalidLasts(lasts)
+from otherfirst.errors import Circled, FalseLasts
+from otherfirst.nets import check_lasts
 
 
 def looks(net, lasts):
@@ -16,13 +11,17 @@ def looks(net, lasts):
     return [_look(net, node, last) for node, last in enumerate(lasts)]
 
 
+def all_circles(net, lasts):
+    """All circles of the lasts, each from its least node on, in ascending order."""
+    # Two nodes that ran one task last look at each other, too, but make no circle.
+    ways = [way for way in cycles(looks(net, lasts)) if lasts[way[0]] != lasts[way[1]]]
+    return [[(node, lasts[node]) for node in way] for way in ways]
+
+
 def circle_of(net, lasts):
     """The circle that has the least of all nodes in circles, or None."""
-    for way in cycles(looks(net, lasts)):
-        # Two nodes that ran one task last look at each other, too, but make no circle.
-        if lasts[way[0]] != lasts[way[1]]:
-            return [(node, lasts[node]) for node in way]
-    return None
+    found = all_circles(net, lasts)
+    return found[0] if found else None
 
 
 def why_false(net, lasts):
@@ -45,6 +44,13 @@ def check_true(net, lasts):
     reason = why_false(net, lasts)
     if reason is not None:
         raise FalseLasts(reason)
+
+
+def check_sound(net, lasts):
+    """Raises an error unless the lasts are lasts of the net, and sound."""
+    circle = circle_of(net, lasts)
+    if circle is not None:
+        raise Circled(circle)
 
 
 def _look(net, node, last):

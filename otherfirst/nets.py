@@ -1,7 +1,7 @@
 """Nets: nodes, and tasks with one or two of them as ends."""
 
 from otherfirst.checks import check_node, check_task
-from otherfirst.errors import InvalidLine, InvalidNodes, InvalidTasks, NotAnEnd
+from otherfirst.errors import InvalidLasts, InvalidLine, InvalidLoad, InvalidNodes, InvalidTasks, NotAnEnd
 from otherfirst.kinds import MOST_NODES, MOST_TASKS, is_count, is_index, is_integer, is_row, is_tuple_of
 from otherfirst.kinds import read_decimal
 
@@ -41,21 +41,22 @@ class Net:
 
     def far(self, task, node):
         """The other end of a shared task, None for an own task."""
-        self._check_end(task, node)
+        self.check_end(task, node)
         ends = self._ends[task]
         if len(ends) == 1:
             return None
         return ends[1] if node == ends[0] else ends[0]
 
     def minds(self, task, node):
-        self._check_end(task, node)
+        self.check_end(task, node)
         return (node, True) in self.tasks[task]
 
     def line(self):
         words = ["".join([_end_word(end) for end in task]) for task in self.tasks]
         return " ".join([f"{self.nodes}:"] + words)
 
-    def _check_end(self, task, node):
+    def check_end(self, task, node):
+        """Raises an error unless the task is one at the node."""
         check_task(self, task)
         check_node(self, node)
         if node not in self._ends[task]:
@@ -74,6 +75,16 @@ def is_lasts(net, value):
     if not is_row(value) or len(value) != net.nodes:
         return False
     return all([_is_last(net, node, item) for node, item in enumerate(value)])
+
+
+def check_load(net, load):
+    if not is_load(net, load):
+        raise InvalidLoad(load)
+
+
+def check_lasts(net, lasts):
+    if not is_lasts(net, lasts):
+        raise InvalidLasts(lasts)
 
 
 def read_net(line):

@@ -5,7 +5,8 @@ from math import factorial
 from otherfirst.checks import check_node, is_task_list
 from otherfirst.cycles import way_from
 from otherfirst.errors import NeverAhead, NoLast
-from otherfirst.lasts import check_lasts, check_true, looks
+from otherfirst.lasts import check_true, looks
+from otherfirst.nets import check_lasts
 from otherfirst.schedules import is_schedule, run_all
 from otherfirst.states import State
 

@@ -1,20 +1,19 @@
 """States: a net, how often each task is left, and what each node ran last."""
 
 from otherfirst.checks import check_minded, check_node, check_task
-from otherfirst.errors import InvalidLasts, InvalidLine, InvalidLoad
-from otherfirst.kinds import read_decimal
+from otherfirst.errors import InvalidLine, TooMany
+from otherfirst.kinds import MOST_TASKS, read_decimal
 from otherfirst.local import slacks_in, tight_in, urgent_in, work_in
-from otherfirst.nets import is_lasts, is_load
+from otherfirst.nets import Net, check_lasts, check_load, is_lasts, is_load
 
 
 class State:
     """A net with a load and lasts. A state is never changed."""
 
     def __init__(self, net, load, lasts=None):
-        if not is_load(net, load):
-            raise InvalidLoad(load)
-        if lasts is not None and not is_lasts(net, lasts):
-            raise InvalidLasts(lasts)
+        check_load(net, load)
+        if lasts is not None:
+            check_lasts(net, lasts)
         self.net = net
         self.load = tuple(load)
         self.lasts = (None,) * net.nodes if lasts is None else tuple(lasts)
@@ -32,6 +31,16 @@ class State:
         counts = [str(count) for count in self.load]
         words = ["-" if last is None else str(last) for last in self.lasts]
         return " ".join(counts + ["/"] + words)
+
+
+def widened(state, tasks, load):
+    """The state with further tasks behind its own, left as often as a further load tells."""
+    net = state.net
+    count = len(net) + len(tasks)
+    if count > MOST_TASKS:
+        raise TooMany(count)
+    wider = Net(net.nodes, net.tasks + tuple(tasks))
+    return State(wider, state.load + tuple(load), state.lasts)
 
 
 def rows_of(state, node):

@@ -1,13 +1,16 @@
 """What the tests share: judges of equal values, of refusals, and values of all kinds."""
 
+import copy
 import random
 import unittest
 
 from otherfirst.errors import InvalidNode, OtherError
 from otherfirst.exchanges import Exchange
+from otherfirst.lasts import circle_of
 from otherfirst.nets import Net
 from otherfirst.states import State
 from otherfirst.stations import Station
+from tests.judge import all_lasts
 
 # The net of the examples in the document.
 ROW = Net(3, [((0, True), (1, True)), ((1, True), (2, False)), ((2, True),)])
@@ -50,8 +53,11 @@ class Case(unittest.TestCase):
 
     def refuses(self, error, attributes, call, *args, **named):
         """The call raises just this error with just these attributes."""
+        lists = [item for item in list(args) + list(named.values()) if isinstance(item, list)]
+        before = copy.deepcopy(lists)
         with self.assertRaises(OtherError) as caught:
             call(*args, **named)
+        self.agree(lists, before)
         self.assertIs(type(caught.exception), error)
         self.assertEqual(sorted(vars(caught.exception)), sorted(attributes))
         for name, value in attributes.items():
@@ -65,6 +71,23 @@ class Case(unittest.TestCase):
                 call(value)
             self.assertIs(type(caught.exception), error, repr(value))
             self.assertIs(caught.exception.given, value)
+
+    def refuses_in_order(self, call, steps, **fixed):
+        """Each step is (name, good, bad, error): of several bad arguments the first one counts."""
+        for at, (_, _, wrong, error) in enumerate(steps):
+            named = {name: good if k < at else bad for k, (name, good, bad, _) in enumerate(steps)}
+            with self.assertRaises(OtherError) as caught:
+                call(**fixed, **named)
+            self.assertIs(type(caught.exception), error)
+            self.assertIs(caught.exception.given, wrong)
+
+    def unchanged(self, call, *args):
+        """The call changes none of its arguments; what it returns."""
+        before = copy.deepcopy(args)
+        result = call(*args)
+        for one, other in zip(before, args):
+            self.agree(other, one)
+        return result
 
     def new_each_time(self, call):
         """The call returns an equal list each time, which nobody else keeps."""
@@ -93,6 +116,29 @@ def no_schedules_of(net):
     """Values that are no schedules of a net, run or not; the net has a task."""
     return [None, True, 0, "", "0", {}, {"a": 0}, net, [None], [True], [False], (True,), [-1], [len(net)],
             ["0"], [[0]], [(0,)], [0, 0.0], [0] * 401, (0,) * 401]
+
+
+def no_loads_of(net):
+    """Values that are no loads of a net, nor any other list of counts of that length; the net has three tasks."""
+    return [None, True, 0, "", "000", {}, net, [], [0] * (len(net) - 1), [0] * (len(net) + 1), (0,) * (len(net) + 1),
+            [0, 0, None], [True, 0, 0], [0, False, 0], (0, 0, -1), [0, 0, "0"], [0, 0, 0.0], [[0], 0, 0], [[0, 0, 0]]]
+
+
+def no_lasts_of(net):
+    """Values that are no lasts of a net; the net has three nodes, and its task 0 is not at its last node."""
+    return [None, True, 0, "", {}, net, [], [None, None], [None] * 4, (None,) * 4, [None, None, 0],
+            [None, None, True], [False, None, None], [None, len(net), None], [-1, None, None], [None, None, "0"],
+            [None, [0], None], [0.0, None, None], [[None, None, None]]]
+
+
+def lasts_of(net, sound=True):
+    """All lasts of a net; the sound ones alone, if not told otherwise."""
+    return [lasts for lasts in all_lasts(net) if not sound or circle_of(net, lasts) is None]
+
+
+def small_nets(seed, number, most_nodes=3, most_tasks=4):
+    rng = random.Random(seed)
+    return [PAIR, TRIANGLE, ROW, EMPTY] + [random_net(rng, most_nodes, most_tasks) for _ in range(number)]
 
 
 def random_net(rng, most_nodes=4, most_tasks=5):

@@ -1,6 +1,9 @@
 """A search of all rows of runs, which knows of the program only what a net, a load and lasts are."""
 
 
+import itertools
+
+
 def moves(net, load, lasts):
     """The tasks that can be run, by the words of point [4]."""
     found = []
@@ -56,6 +59,44 @@ class Search:
             for rest in self.all(*behind(self.net, load, lasts, task)):
                 found.append([task] + rest)
         return found
+
+
+SEARCHES = {}
+
+
+def done(net, load, lasts):
+    """Whether there is a complete schedule."""
+    key = (net.nodes, net.tasks)
+    if key not in SEARCHES:
+        SEARCHES[key] = Search(net)
+    return SEARCHES[key].least(load, lasts) is not None
+
+
+def slack(net, load, lasts, task, node):
+    """By the words of point [5]."""
+    work = sum(left for left, ends in zip(load, net.tasks) if node in [end for end, _ in ends])
+    return work + 1 - 2 * load[task] - (1 if lasts[node] == task else 0)
+
+
+def often(net, load, lasts):
+    """A tuple (node, task) for each end that minds its task and has it too often, ascending."""
+    ends = [(node, task) for task, marks in enumerate(net.tasks) for node, minds in marks if minds]
+    return sorted((node, task) for node, task in ends if slack(net, load, lasts, task, node) < 0)
+
+
+def between(low, high):
+    """All loads between two."""
+    return list(itertools.product(*[range(one, other + 1) for one, other in zip(low, high)]))
+
+
+def within(high):
+    """All loads within bounds."""
+    return between([0] * len(high), high)
+
+
+def true_lasts(net):
+    """All lasts that some runs leave, from fresh ones."""
+    return list(shortest_pasts(net))
 
 
 def shortest_pasts(net):

@@ -155,5 +155,97 @@ class StageTwoExamples(Case):
         self.refuses(NeverAhead, {"way": [0, 1, 2]}, past_with, net, [0, 1, 1, None], 2, 0)
 
 
+class StageThreeExamples(Case):
+    def test_memories(self):
+        from otherfirst.errors import Circled
+        from otherfirst.memories import forgotten, is_parting_load, parting_load, rested, to_forget
+        from otherfirst.nets import Net
+        from otherfirst.states import State
+        net = Net(2, [((0, True), (1, True)), ((0, False), (1, True))])
+        state = State(net, [1, 1], [0, 1])
+        self.agree([rested(state, [2, 0]).net.line(), rested(state, [2, 0]).line()],
+                   ['2: 0!1! 0?1! 0? 1?', '1 1 2 0 / 0 1'])
+        self.agree([to_forget(state), to_forget(State(net, [1, 0], [0, 0])), forgotten(state, [1]).lasts],
+                   [([], [[(0, 0), (1, 1)]]), ([0, 1], []), (0, None)])
+        self.agree([parting_load(net, [1, 1], [None, 1]),
+                    is_parting_load(net, [None, 1], [None, 0], ((0, 1), (1, 0)))],
+                   [None, True])
+        self.refuses(Circled, {'circle': [(0, 0), (1, 1)]}, parting_load, net, [0, 1], [0, 0])
+
+    def test_taking_and_passages(self):
+        from otherfirst.errors import NotAbove
+        from otherfirst.nets import Net
+        from otherfirst.passages import opposite, passage
+        from otherfirst.states import State
+        from otherfirst.taking import addable, climb, greater, is_build, removable
+        net = Net(3, [((0, True), (1, True)), ((1, True), (2, True)), ((2, False),)])
+        state = State(net, [1, 2, 1])
+        self.agree([addable(state), removable(state), addable(State(net, [0, 2, 1]))], [[2], [1], [0]])
+        self.agree([is_build(state, [0, 1, 2, 1]), is_build(state, [0, 1, 1, 2])], [True, False])
+        self.agree([opposite(state, [0, 1, 2, 1], [2, 1, 0, 1]), len(passage(state, [0, 1, 2, 1], [2, 1, 0, 1]))],
+                   [3, 4])
+        self.agree(passage(state, [1, 0, 2, 1], (0, 1, 2, 1)), [[1, 0, 2, 1], [0, 1, 2, 1]])
+        self.agree([greater(State(net, [1, 1, 0]), [0, 1, 3]).load, climb(State(net, [1, 1, 0]), [1, 2, 1])],
+                   [(1, 1, 3), [2, 1]])
+        self.refuses(NotAbove, {"task": 1}, climb, state, [1, 1, 1])
+
+    def test_greatest(self):
+        from otherfirst.errors import Circled, NotThatOften
+        from otherfirst.greatest import greatest, is_reasons, level
+        from otherfirst.nets import Net
+        net = Net(3, [((0, True), (1, True)), ((0, True), (1, True)), ((1, True), (2, True)), ((2, False),)])
+        fresh = [None, None, None]
+        self.agree([greatest(net, fresh, [1, 9, 9, 9]), greatest(net, [1, None, None], [1, 9, 9, 9])],
+                   [(1, 2, 4, 9), (1, 1, 3, 9)])
+        self.agree(is_reasons(net, fresh, [1, 9, 9, 9], [(3, 9, None), (0, 1, None), (1, 2, 0), (2, 4, 1)]), True)
+        self.agree(is_reasons(net, fresh, [1, 9, 9, 9], [(1, 2, 0), (3, 9, None), (0, 1, None), (2, 4, 1)]), False)
+        self.refuses(NotThatOften, {'most': 2}, level, net, fresh, [1, 9, 9, 9], 1, 3)
+        self.refuses(Circled, {'circle': [(0, 0), (1, 1)]}, greatest, net, [0, 1, None], [1, 1, 1, 1])
+
+    def test_walks(self):
+        from otherfirst.errors import Impossible
+        from otherfirst.nets import Net
+        from otherfirst.walks import is_strikes, leaves, lowered, price
+        net = Net(3, [((0, True), (1, True)), ((0, True), (1, True)), ((1, True), (2, True)), ((2, False),)])
+        fresh = [None, None, None]
+        self.agree(lowered(net, fresh, [1, 2, 4, 5], 0), ((0, 1, 2, 5), [[(0, 1), (1, 2)], [(1, 2)]]))
+        self.agree([price(net, fresh, [1, 2, 4, 5], 0), price(net, fresh, [1, 2, 4, 5], 3)], [3, 0])
+        self.agree(leaves(net, fresh, [1, 2, 4, 5], 0), ((0, 0, 1, 5), [(1, 2), (1, 2), (1, 2)]))
+        self.agree(is_strikes(net, fresh, [1, 2, 4, 5], 0, [(1, 2), (1, 2)]), False)
+        self.refuses(Impossible, {'defect': ('often', 0, 1)}, lowered, net, fresh, [0, 2, 1, 5], 2)
+
+    def test_boxes(self):
+        from otherfirst.boxes import fate_between, is_fate_between, waived, waivers
+        from otherfirst.errors import NotAbove
+        from otherfirst.nets import Net
+        from otherfirst.states import State
+        net = Net(3, [((0, True), (1, True)), ((1, True), (2, True)), ((2, True),)])
+        fresh = [None, None, None]
+        self.agree([fate_between(net, fresh, [0, 0, 0], [1, 0, 1]),
+                    fate_between(net, fresh, [0, 2, 0], [1, 3, 0])[:2]],
+                   [('sure',), ('never', 1)])
+        self.agree(is_fate_between(net, fresh, [0, 0, 0], [1, 2, 0], ("open", (1, 1, 0), (0, 2, 0))), True)
+        self.agree([waivers(State(net, [2, 0, 0])), waived(State(net, [2, 0, 0]), [(1, 0), (0, 0)]).net.line()],
+                   [([(0, 0), (1, 0)], []), '3: 0?1? 1!2! 2!'])
+        pair = Net(2, [((0, True), (1, True)), ((0, True), (1, True))])
+        self.agree(waivers(State(pair, [1, 1], [0, 1])), ([], [[(0, 0), (1, 1)]]))
+        self.refuses(NotAbove, {"task": 1}, fate_between, net, fresh, [0, 2, 0], [1, 1, 0])
+
+    def test_partial(self):
+        from otherfirst.errors import FalseLasts, NeverLast
+        from otherfirst.nets import Net
+        from otherfirst.partial import fate_known, full_lasts, last_could_be
+        from otherfirst.states import State
+        net = Net(3, [((0, True), (1, True)), ((1, True), (2, True)), ((2, True),)])
+        self.agree([full_lasts(net, [0, 0, 1], [True, True, False])[:2],
+                    last_could_be(net, [0, None, 2], [True, False, True], 1, 1)],
+                   [(0, 0), (0, 1, 2)])
+        self.agree([fate_known(State(net, [1, 1, 0], [None, 0, None]), [False, True, True]),
+                    fate_known(State(net, [0, 1, 1]), [False, True, False])],
+                   [(0, 0, None), None])
+        self.refuses(NeverLast, {'way': [2]}, last_could_be, net, [0, None, None], [True, False, True], 1, 1)
+        self.refuses(FalseLasts, {'reason': ('bare', 0)}, full_lasts, net, [0, None, None], [True, True, False])
+
+
 if __name__ == "__main__":
     unittest.main()

@@ -50,6 +50,30 @@ INTERFACE = {
         "past_of": "net lasts", "is_past": "net lasts value", "count_pasts": "net lasts", "sure_order": "net lasts",
         "past_with": "net lasts node other",
     },
+    "memories": {
+        "rested": "state rests", "parting_load": "net lasts other", "is_parting_load": "net lasts other value",
+        "forgotten": "state nodes", "to_forget": "state",
+    },
+    "taking": {
+        "addable": "state", "removable": "state", "build_of": "state", "is_build": "state value",
+        "greater": "state load", "climb": "state load",
+    },
+    "passages": {"passage": "state one other", "opposite": "state one other"},
+    "greatest": {
+        "greatest": "net lasts bounds", "is_greatest": "net lasts bounds value", "reasons": "net lasts bounds",
+        "is_reasons": "net lasts bounds value", "level": "net lasts bounds task number",
+    },
+    "walks": {
+        "lowered": "net lasts load task", "price": "net lasts load task", "leaves": "net lasts load node",
+        "is_strikes": "net lasts load node value",
+    },
+    "boxes": {
+        "fate_between": "net lasts low high", "is_fate_between": "net lasts low high value",
+        "waivers": "state", "waived": "state ends",
+    },
+    "partial": {
+        "full_lasts": "net lasts known", "last_could_be": "net lasts known node task", "fate_known": "state known",
+    },
 }
 
 

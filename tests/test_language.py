@@ -23,7 +23,7 @@ BARRED = set("""
     abstractmethod attrgetter breakpoint builtins compile copyright credits delattr dir eval exec exit gc globals help
     id importlib license locals methodcaller os quit super vars sys _wall _WallAttr
 """.split())
-LIBRARY = {"math": {"gcd", "lcm", "isqrt", "comb", "perm", "factorial"}}
+LIBRARY = {"math": {"gcd", "lcm", "isqrt", "comb", "perm", "factorial"}, "heapq": {"heappush", "heappop"}}
 NODES = (
     ast.Module, ast.ImportFrom, ast.alias, ast.FunctionDef, ast.ClassDef, ast.arguments, ast.arg, ast.Assign,
     ast.AugAssign, ast.Expr, ast.Return, ast.If, ast.While, ast.For, ast.Raise, ast.Delete, ast.Break, ast.Continue,

@@ -1,6 +1,7 @@
 """Passages: ways from one build of a state to another one by exchanges of neighbours."""
 
 from otherfirst.errors import InvalidBuild, TooMany
+from otherfirst.moments import moments_of
 from otherfirst.taking import is_build
 
 MOST_EXCHANGES = 60
@@ -25,25 +26,14 @@ def opposite(state, one, other):
     """The number of pairs of takings that stand in one order in one build and in the opposite one in the other."""
     _check_build(state, one)
     _check_build(state, other)
-    places = {taking: at for at, taking in enumerate(_takings(other))}
-    order = [places[taking] for taking in _takings(one)]
+    places = {taking: at for at, taking in enumerate(moments_of(other))}
+    order = [places[taking] for taking in moments_of(one)]
     return sum([len([1 for later in order[at + 1:] if later < place]) for at, place in enumerate(order)])
 
 
 def _check_build(state, value):
     if not is_build(state, value):
         raise InvalidBuild(value)
-
-
-def _takings(build):
-    """A tuple (task, k) for the k-th taking of each task."""
-    counts = {}
-    found = []
-    for task in build:
-        number = counts.get(task, 0)
-        found.append((task, number))
-        counts[task] = number + 1
-    return found
 
 
 def _exchanged(build, at):

@@ -247,5 +247,71 @@ class StageThreeExamples(Case):
         self.refuses(FalseLasts, {'reason': ('bare', 0)}, full_lasts, net, [0, None, None], [True, True, False])
 
 
+class StageFourExamples(Case):
+    def test_profiles_and_joins_and_helps(self):
+        from otherfirst.errors import SharedTask
+        from otherfirst.helps import helped, least_help, shared_help
+        from otherfirst.joins import is_parting, joined, merged, never_worse
+        from otherfirst.nets import Net
+        from otherfirst.profiles import fits, need, profile, together
+        from otherfirst.states import State
+        net = Net(3, [((0, True), (1, True)), ((1, True), (2, False)), ((2, True),)])
+        state = State(net, [2, 1, 0])
+        self.agree([need(state, 0), profile(state)], [1, ((1, 2), (0, 3), (0, 1))])
+        other = State(Net(3, [((0, False),), ((2, True),)]), [1, 3])
+        self.agree([profile(other), joined(state, other).line()], [((0, 1), (0, 0), (2, 3)), '2 1 0 1 3 / - - -'])
+        self.agree([fits(profile(state), profile(other)), together(profile(state), profile(other))],
+                   [False, ((0, 3), (0, 3), (1, 4))])
+        later = State(net, [2, 1, 0], [None, 0, 2])
+        self.agree([never_worse(state, later), is_parting(state, later, State(Net(3, [((0, False),)]), [1]))],
+                   [None, True])
+        self.agree([least_help(later), shared_help(later), helped(state, [(0, 2)]).net.line()],
+                   [(1, 1, 0), [(0, 1)], '3: 0!1! 1!2? 2! 0?2?'])
+        self.agree([merged(later, 2, 0).net.line(), merged(later, 2, 0).lasts], ['2: 0!1! 0!1? 1!', (0, 2)])
+        self.refuses(SharedTask, {"task": 0}, merged, later, 0, 1)
+
+    def test_errands(self):
+        from otherfirst.errands import errands, is_errand, is_errands, repeated, times_over
+        from otherfirst.errors import NotForEver
+        from otherfirst.nets import Net
+        from otherfirst.states import State
+        net = Net(3, [((0, True), (1, True)), ((1, True), (2, True)), ((0, True),), ((2, False),)])
+        self.agree([times_over(State(net, [1, 1, 1, 1])), times_over(State(net, [1, 1, 1, 0])),
+                    times_over(State(net, [3, 1, 1, 1]))],
+                   [None, 1, 0])
+        self.agree(repeated(State(net, [1, 0, 2, 1]), 3).load, (3, 0, 6, 3))
+        self.agree([is_errand(net, [2, 0, 0, 1, 1, 2, 3]), is_errand(net, [2, 0, 2]), is_errand(net, [3, 2, 3])],
+                   [True, False, True])
+        self.agree(is_errands(State(net, [1, 1, 1, 2]), [[2, 0, 0, 1, 1, 2, 3], [3, 2, 1, 1, 0, 0, 2], [3, 2, 3]]),
+                   True)
+        self.refuses(NotForEver, {"node": 2, "task": 1}, errands, State(net, [1, 1, 1, 0]))
+
+    def test_branches(self):
+        from otherfirst.branches import errand_through, is_closed_branch
+        from otherfirst.errors import NoErrand
+        from otherfirst.nets import Net
+        net = Net(4, [((0, True), (1, True)), ((1, True), (2, True)), ((2, True), (3, True)), ((3, False),)])
+        self.agree([is_closed_branch(net, 1, 1, [1, 0]), is_closed_branch(net, 1, 1, [1]),
+                    is_closed_branch(net, 1, 2, [2, 3])],
+                   [True, False, False])
+        self.agree(errand_through(net, 3), [3, 3, 3])
+        self.refuses(NoErrand, {"node": 2, "branch": [0, 1, 2]}, errand_through, net, 2)
+
+    def test_rows(self):
+        from otherfirst.errors import Unequal
+        from otherfirst.nets import Net
+        from otherfirst.rows import count_own_rows, fit, is_fit_ring, own_rows
+        from otherfirst.states import State
+        net = Net(3, [((0, True), (1, True)), ((1, True), (2, True)), ((2, True),)])
+        self.agree([own_rows(State(net, [1, 1, 1]), 1), count_own_rows(State(net, [2, 2, 0], [None, 0, None]), 1)],
+                   [[[0, 1], [1, 0]], 1])
+        self.agree(fit(net, [[0], [1, 0], [2, 1]]), [2, 1, 0])
+        pair = Net(2, [((0, True), (1, True)), ((0, False), (1, True))])
+        self.agree([is_fit_ring(pair, [[0, 1], [1, 0]], [(0, 0), (1, 0)]),
+                    is_fit_ring(pair, [[0, 1], [0, 1]], [(0, 0), (1, 0)])],
+                   [True, False])
+        self.refuses(Unequal, {"task": 1}, fit, pair, [[0, 1, 1], [1, 0]])
+
+
 if __name__ == "__main__":
     unittest.main()

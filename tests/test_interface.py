@@ -74,6 +74,23 @@ INTERFACE = {
     "partial": {
         "full_lasts": "net lasts known", "last_could_be": "net lasts known node task", "fate_known": "state known",
     },
+    "profiles": {
+        "need": "state node", "profile": "state", "is_profile": "value nodes", "fits": "first second",
+        "together": "first second",
+    },
+    "joins": {
+        "joined": "one other", "parting": "one other", "never_worse": "one other", "is_parting": "one other value",
+        "merged": "state node other",
+    },
+    "helps": {"least_help": "state", "shared_help": "state", "helped": "state pairs"},
+    "errands": {
+        "repeated": "state number", "times_over": "state", "is_errand": "net value", "errands": "state",
+        "is_errands": "state value",
+    },
+    "branches": {"is_closed_branch": "net task node value", "errand_through": "net task"},
+    "rows": {
+        "fit": "net rows", "is_fit_ring": "net rows value", "own_rows": "state node", "count_own_rows": "state node",
+    },
 }
 
 

@@ -1,9 +1,10 @@
 """Decisions: whether all that is left can be run, and in which order."""
 
+from otherfirst.courses import run_off
 from otherfirst.errors import Impossible, TooMany
 from otherfirst.kinds import MOST_RUNS, are_integers, is_tuple_of
 from otherfirst.rings import is_ring, rings
-from otherfirst.runs import run_off, safe
+from otherfirst.runs import safe
 from otherfirst.states import too_often
 
 

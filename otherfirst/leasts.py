@@ -1,10 +1,11 @@
 """The least schedule, why it is the least one, and states that are stuck."""
 
 from otherfirst.checks import check_schedule
+from otherfirst.courses import Course, run_off
 from otherfirst.decide import check_doable
 from otherfirst.errors import NotComplete, NotLeast, NotStuck
 from otherfirst.kinds import are_integers, is_row
-from otherfirst.runs import all_open, bars, closers, legal, run, run_off
+from otherfirst.runs import bars, legal
 from otherfirst.schedules import is_complete
 
 
@@ -56,13 +57,12 @@ def held_up(state):
 
 def _passed_over(state, schedule):
     """A tuple (at, task, nodes) for each task passed over, with the ends that do not leave it open."""
+    course = Course(state)
     found = []
     for at, due in enumerate(schedule):
-        opened = all_open(state)
-        for task in range(due):
-            if state.load[task] > 0:
-                found.append((at, task, closers(state, opened, task)))
-        state = run(state, due)
+        for task, nodes in course.passed_over(due):
+            found.append((at, task, nodes))
+        course.run(due)
     return found
 
 

@@ -69,14 +69,3 @@ def spoils(state):
             nodes = [node for node in state.net.ends(task) if hasty[node] not in (None, task)]
             found.append((task, nodes[0], hasty[nodes[0]]))
     return found
-
-
-def run_off(state):
-    """The tasks run if the least safe one is run each time; all that is left, if the state can be done."""
-    schedule = []
-    tasks = safe(state)
-    while tasks:
-        schedule.append(tasks[0])
-        state = run(state, tasks[0])
-        tasks = safe(state)
-    return schedule

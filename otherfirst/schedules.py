@@ -1,29 +1,31 @@
 """Schedules: lists of tasks that are run one behind the other."""
 
 from otherfirst.checks import check_minded, check_node, check_schedule, check_task, is_task_list
+from otherfirst.courses import Course
 from otherfirst.errors import Stopped
-from otherfirst.runs import can_run, run
 
 
 def run_all(state, schedule):
     """The state behind all tasks of a schedule."""
     check_schedule(state.net, schedule)
-    for at, task in enumerate(schedule):
-        if not can_run(state, task):
-            raise Stopped(at, state)
-        state = run(state, task)
-    return state
+    course = Course(state)
+    at = _follow(course, schedule)
+    if at < len(schedule):
+        raise Stopped(at, course.reached())
+    return course.reached()
 
 
 def is_schedule(state, value):
     """Whether any value is a list of tasks that can be run, one behind the other, from the state."""
-    return _behind(state, value) is not None
+    return is_task_list(state.net, value) and _follow(Course(state), value) == len(value)
 
 
 def is_complete(state, value):
     """Whether any value is such a list behind which nothing is left."""
-    reached = _behind(state, value)
-    return reached is not None and reached.total() == 0
+    if not is_task_list(state.net, value):
+        return False
+    course = Course(state)
+    return _follow(course, value) == len(value) and course.is_over()
 
 
 def own_row(net, schedule, node):
@@ -50,12 +52,10 @@ def wastes(state, schedule, node, task):
     return found
 
 
-def _behind(state, value):
-    """The state behind a value that is a schedule, and None behind any other one."""
-    if not is_task_list(state.net, value):
-        return None
-    for task in value:
-        if not can_run(state, task):
-            return None
-        state = run(state, task)
-    return state
+def _follow(course, schedule):
+    """Runs the tasks of a schedule until one cannot be run; the number of those that were run."""
+    for at, task in enumerate(schedule):
+        if not course.can_run(task):
+            return at
+        course.run(task)
+    return len(schedule)

@@ -79,18 +79,19 @@ def _spoiler(net, lasts, low, high):
 def _is_sure(net, lasts, low, high):
     if _spoiler(net, lasts, low, high) is not None:
         return False
-    return not any([_can_close(net, low, high, circle) for circle in all_circles(net, lasts)])
+    return not any([_can_close(net, low, circle) for circle in all_circles(net, lasts)])
 
 
-def _can_close(net, low, high, circle):
-    """Whether a circle of the lasts is a ring of some load between two."""
+def _can_close(net, low, circle):
+    """Whether a circle of the lasts is a ring of some load from low on, if no load there has a task too often.
+
+    For then, without other tasks at its nodes, the tasks of the circle are left equally often in all these loads.
+    """
     tasks = [task for _, task in circle]
-    if not all([net.minds(task, node) for node, task in circle]):
-        return False
     others = [task for node, _ in circle for task in net.at(node) if task not in tasks]
-    if any([low[task] > 0 for task in others]):
+    if any([low[task] > 0 for task in others]) or not all([net.minds(task, node) for node, task in circle]):
         return False
-    return max(1, max([low[task] for task in tasks])) <= min([high[task] for task in tasks])
+    return all([low[task] > 0 for task in tasks])
 
 
 def _is_never(net, lasts, low, high, task, told):

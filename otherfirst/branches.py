@@ -1,6 +1,5 @@
 """Branches: parts of a net that hang on one task, and errands that have a task."""
 
-from otherfirst.checks import check_task
 from otherfirst.errors import NoErrand
 from otherfirst.kinds import is_index, is_row
 
@@ -15,7 +14,6 @@ def is_closed_branch(net, task, node, value):
 
 def errand_through(net, task):
     """An errand that has the task."""
-    check_task(net, task)
     ends = net.ends(task)
     for node in ends:
         branch = _closed_branch(net, task, node)

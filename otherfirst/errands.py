@@ -26,8 +26,9 @@ def is_errand(net, value):
     """Whether any value is an errand of the net."""
     if not is_row(value) or len(value) < 3:
         return False
-    tasks = list(value[::2])
-    nodes = list(value[1::2])
+    row = list(value)
+    tasks = row[::2]
+    nodes = row[1::2]
     if not all([is_index(task, len(net)) for task in tasks]) or not all([is_index(node, net.nodes) for node in nodes]):
         return False
     if len(tasks) > len(nodes):

@@ -43,20 +43,10 @@ def open_tasks(state, node):
     return open_in(rows_of(state, node), state.lasts[node])
 
 
-def all_open(state):
-    """For each node, the tasks that it leaves open."""
-    return [open_tasks(state, node) for node in range(state.net.nodes)]
-
-
-def closers(state, opened, task):
-    """The ends of a task that do not leave it open, ascending, where opened is what all_open returns."""
-    return [node for node in state.net.ends(task) if task not in opened[node]]
-
-
 def safe(state):
     """The safe tasks, ascending."""
-    opened = all_open(state)
-    return [task for task in range(len(state.net)) if closers(state, opened, task) == []]
+    opened = [open_tasks(state, node) for node in range(state.net.nodes)]
+    return [task for task in range(len(state.net)) if all([task in opened[node] for node in state.net.ends(task)])]
 
 
 def spoils(state):

@@ -57,7 +57,7 @@ def is_strikes(net, lasts, load, node, value):
         if not are_integers(item, 2):
             return False
         at, task = item
-        if not is_index(at, net.nodes) or not is_index(task, len(net)) or not tally.is_often(task, at):
+        if not is_index(task, len(net)) or not tally.is_often(task, at):
             return False
         tally.change(task, -1)
     return tally.is_fine()

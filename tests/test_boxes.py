@@ -82,6 +82,8 @@ class FateBetweenTest(Case):
         self.refuses(NotAbove, {"task": 1}, fate_between, CHAIN, FRESH, [0, 2, 3], [1, 1, 0])
         self.refuses(NotAbove, {"task": 0}, fate_between, PAIR, [0, 1], [LONG, 0], [LONG - 1, 0])
         self.refuses(Circled, {"circle": [(0, 0), (1, 1)]}, fate_between, PAIR, [0, 1], [0, 0], [1, 1])
+        self.refuses(Circled, {"circle": [(0, 0), (1, 1)]}, fate_between, PAIR, [0, 1], [0, 0], [0, 0])
+        self.refuses(Circled, {"circle": [(0, 0), (1, 1)]}, fate_between, PAIR, [0, 1], [9, 0], [9, 0])
 
 
 class IsFateBetweenTest(Case):

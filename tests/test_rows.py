@@ -255,6 +255,9 @@ class OwnRowsTest(Case):
         self.agree([count_own_rows(State(pair, [140, 140]), 0), count_own_rows(State(pair, [140, 140], [1]), 0),
                     count_own_rows(State(pair, [140, 139]), 0), count_own_rows(State(pair, [140, 138]), 0)], [2, 1, 1, 0])
         self.agree(own_rows(State(pair, [140, 140]), 0), [[0, 1] * 140, [1, 0] * 140])
+        # No order comes to an end, though there are ever so many beginnings.
+        three = Net(1, [((0, True),), ((0, False),), ((0, False),)])
+        self.agree([own_rows(State(three, [198, 9, 9]), 0), count_own_rows(State(three, [198, 9, 9]), 0)], [[], 0])
 
     def test_limits(self):
         free = Net(1, [((0, False),)] * 15)

@@ -11,13 +11,12 @@ class Course:
 
     def __init__(self, state):
         net = state.net
-        nodes = range(net.nodes)
         self._net = net
         self._load = list(state.load)
         self._lasts = list(state.lasts)
-        self._minded = [[task for task, minds in net.marks(node) if minds] for node in nodes]
-        self._works = [sum([state.load[task] for task, _ in net.marks(node)]) for node in nodes]
-        self._urgents = [self._urgent_at(node) for node in nodes]
+        self._minded = [[task for task, minds in net.marks(node) if minds] for node in range(net.nodes)]
+        self._works = [sum([state.load[task] for task, _ in net.marks(node)]) for node in range(net.nodes)]
+        self._urgents = [self._urgent_at(node) for node in range(net.nodes)]
 
     def can_run(self, task):
         if self._load[task] == 0:

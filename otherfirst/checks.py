@@ -1,6 +1,6 @@
 """Checks of arguments that many points share: each raises the error of its argument."""
 
-from otherfirst.errors import InvalidNode, InvalidSchedule, InvalidTask, NotMinded
+from otherfirst.errors import InvalidNode, InvalidSchedule, InvalidTask, NotMinded, TooMany
 from otherfirst.kinds import MOST_RUNS, is_index, is_row
 
 
@@ -30,3 +30,8 @@ def is_task_list(net, value):
 def check_schedule(net, schedule):
     if not is_task_list(net, schedule):
         raise InvalidSchedule(schedule)
+
+
+def check_many(count, most=MOST_RUNS):
+    if count > most:
+        raise TooMany(count)

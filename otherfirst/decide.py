@@ -1,8 +1,9 @@
 """Decisions: whether all that is left can be run, and in which order."""
 
+from otherfirst.checks import check_many
 from otherfirst.courses import run_off
-from otherfirst.errors import Impossible, TooMany
-from otherfirst.kinds import MOST_RUNS, are_integers, is_tuple_of
+from otherfirst.errors import Impossible
+from otherfirst.kinds import are_integers, is_tuple_of
 from otherfirst.rings import is_ring, rings
 from otherfirst.runs import safe
 from otherfirst.states import too_often
@@ -41,8 +42,7 @@ def check_possible(state):
 
 def check_doable(state):
     """Raises an error unless the state can be done and its runs can be listed."""
-    if state.total() > MOST_RUNS:
-        raise TooMany(state.total())
+    check_many(state.total())
     check_possible(state)
 
 

@@ -1,7 +1,8 @@
 """Errands: ways that cover a load twice, and loads that can be run off again and again."""
 
+from otherfirst.checks import check_many
 from otherfirst.decide import can_be_done
-from otherfirst.errors import InvalidNumber, NotForEver, TooMany
+from otherfirst.errors import InvalidNumber, NotForEver
 from otherfirst.kinds import MOST_RUNS, is_index, is_row
 from otherfirst.lasts import check_sound
 from otherfirst.states import State, work
@@ -40,8 +41,7 @@ def is_errand(net, value):
 
 def errands(state):
     """Errands in which each task comes, in all of them together, just twice as often as it is left."""
-    if state.total() > MOST_RUNS:
-        raise TooMany(state.total())
+    check_many(state.total())
     heavy = _heavy(state)
     if heavy is not None:
         node, task = heavy

@@ -1,9 +1,9 @@
 """Exchanges: the stations of a state, and the letters under way between them."""
 
-from otherfirst.checks import check_node, check_task
+from otherfirst.checks import check_many, check_node, check_task
 from otherfirst.decide import check_doable
-from otherfirst.errors import InvalidIndex, TooMany
-from otherfirst.kinds import MOST_RUNS, is_index
+from otherfirst.errors import InvalidIndex
+from otherfirst.kinds import is_index
 from otherfirst.states import State
 from otherfirst.stations import station_of
 
@@ -85,9 +85,7 @@ class Exchange:
 
     def settle(self):
         """Makes passes until two of them, one behind the other, decide nothing; their number."""
-        count = self.present().total() + sum(self.wanted())
-        if count > MOST_RUNS:
-            raise TooMany(count)
+        check_many(self.present().total() + sum(self.wanted()))
         passes = 0
         idle = 0
         while idle < 2:

@@ -1,6 +1,7 @@
 """Help: rests and further shared tasks with which a state can be done."""
 
-from otherfirst.errors import InvalidPairs, NoPartner, TooMany
+from otherfirst.checks import check_many
+from otherfirst.errors import InvalidPairs, NoPartner
 from otherfirst.kinds import is_index, is_row, is_tuple_of
 from otherfirst.lasts import check_sound
 from otherfirst.profiles import profile
@@ -21,8 +22,7 @@ def shared_help(state):
     if len(needs) == 1 and needs[0] > 0:
         raise NoPartner(0)
     count = max(max(needs), (sum(needs) + 1) // 2)
-    if count > MOST_PAIRS:
-        raise TooMany(count)
+    check_many(count, MOST_PAIRS)
     left = list(needs)
     pairs = []
     while len(pairs) < count:

@@ -1,7 +1,7 @@
 """Joins: states on the same nodes in one, states that tell two others apart, and two nodes in one."""
 
-from otherfirst.checks import check_node
-from otherfirst.errors import InvalidOther, SameNode, SharedTask, TooMany
+from otherfirst.checks import check_many, check_node
+from otherfirst.errors import InvalidOther, SameNode, SharedTask
 from otherfirst.kinds import MOST_TASKS
 from otherfirst.lasts import check_sound
 from otherfirst.nets import Net
@@ -82,9 +82,7 @@ def _check_pair(one, other):
 
 def _check_room(one, other):
     """Raises an error unless each of the states has room for an own task for each node and one more."""
-    count = max(len(one.net), len(other.net)) + one.net.nodes + 1
-    if count > MOST_TASKS:
-        raise TooMany(count)
+    check_many(max(len(one.net), len(other.net)) + one.net.nodes + 1, MOST_TASKS)
 
 
 def _fitting_second(first, second):

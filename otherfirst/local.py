@@ -40,3 +40,32 @@ def addable_in(rows, last):
     """The tasks of which one more leaves the counts of the node fine, if they were."""
     short = [task for task, slack in slacks_in(rows, last) if slack < 1]
     return [row[0] for row in rows if row[0] not in short]
+
+
+def behind_in(rows, task):
+    """The rows behind a run of a task."""
+    return [(other, minds, left - int(other == task)) for other, minds, left in rows]
+
+
+def order_in(rows, last, after=None):
+    """An order of all runs of the rows, from the last, that does not end with a task `after` if the node minds it.
+
+    It is None if there is no such order.
+    """
+    # What comes behind the order takes a slack from that task, just as the last takes one.
+    if any([slack < int(task == after) for task, slack in slacks_in(rows, last)]):
+        return None
+    order = []
+    while work_in(rows) > 0:
+        last = _due_in(rows, last, after)
+        rows = behind_in(rows, last)
+        order.append(last)
+    return order
+
+
+def _due_in(rows, last, after):
+    """The task that the node has to run next in such an order, or else the least that it can run."""
+    for task, slack in slacks_in(rows, last):
+        if slack == int(task == after) and task != last:
+            return task
+    return [task for task, minds, left in rows if left > 0 and not (minds and task == last)][0]

@@ -1,6 +1,7 @@
 """Passages: ways from one build of a state to another one by exchanges of neighbours."""
 
-from otherfirst.errors import InvalidBuild, TooMany
+from otherfirst.checks import check_many
+from otherfirst.errors import InvalidBuild
 from otherfirst.moments import moments_of
 from otherfirst.taking import is_build
 
@@ -9,9 +10,7 @@ MOST_EXCHANGES = 60
 
 def passage(state, one, other):
     """Builds from one to the other, each got from the one ahead of it by an exchange of neighbours."""
-    count = opposite(state, one, other)
-    if count > MOST_EXCHANGES:
-        raise TooMany(count)
+    check_many(opposite(state, one, other), MOST_EXCHANGES)
     builds = [list(one)]
     for at, task in enumerate(other):
         # What leads to either build leads to the joint of both, so the next taking can come ahead of all

@@ -1,10 +1,10 @@
 """Rows: orders of single nodes, and whether they fit together."""
 
-from otherfirst.checks import check_node
+from otherfirst.checks import check_many, check_node
 from otherfirst.cycles import way_from
-from otherfirst.errors import InvalidRows, NoFit, TooMany, Unequal
+from otherfirst.errors import InvalidRows, NoFit, Unequal
 from otherfirst.kinds import MOST_RUNS, are_integers, is_index, is_row
-from otherfirst.local import open_in, work_in
+from otherfirst.local import behind_in, open_in, work_in
 from otherfirst.moments import moments_of
 from otherfirst.states import rows_of
 
@@ -16,18 +16,29 @@ def fit(net, rows):
     """A list of tasks that has these rows as the own rows of its nodes."""
     _check_rows(net, rows)
     count = sum([rows[net.ends(task)[0]].count(task) for task in range(len(net))])
-    if count > MOST_RUNS:
-        raise TooMany(count)
+    check_many(count)
+    order, due = laid(net, rows)
+    if len(order) < count:
+        raise NoFit(_ring(rows, due))
+    return order
+
+
+def laid(net, rows):
+    """The tasks of the rows in one order, as far as there is one, and how many items of each row are in it."""
     order = []
     due = [0] * net.nodes
-    while len(order) < count:
-        task = _ready(net, rows, due)
-        if task is None:
-            raise NoFit(_ring(rows, due))
-        order.append(task)
-        for node in net.ends(task):
-            due[node] += 1
-    return order
+    heads = [_item(row, 0) for row in rows]
+    # The nodes whose heads may be the heads of the far ends, too.
+    queue = list(range(net.nodes))
+    while queue:
+        task = heads[queue.pop()]
+        if task is not None and all([heads[node] == task for node in net.ends(task)]):
+            order.append(task)
+            for node in net.ends(task):
+                due[node] += 1
+                heads[node] = _item(rows[node], due[node])
+                queue.append(node)
+    return order, due
 
 
 def is_fit_ring(net, rows, value):
@@ -50,17 +61,18 @@ def own_rows(state, node):
     """All orders of the runs left at a node that it could run alone, ascending."""
     check_node(state.net, node)
     rows = rows_of(state, node)
-    runs = work_in(rows)
-    if runs > MOST_RUNS:
-        raise TooMany(runs)
+    check_many(work_in(rows))
     count = _count(rows, state.lasts[node])
-    if count > MOST_ORDERS:
-        raise TooMany(count)
-    if count == 0:
-        return []
+    check_many(count, MOST_ORDERS)
+    return listed_rows(state, node) if count > 0 else []
+
+
+def listed_rows(state, node):
+    """All these orders, if there are any and not too many."""
+    rows = _kept(rows_of(state, node))
     # With fine counts what the node leaves open is just what leaves them fine, so no beginning is in vain.
-    parts = [([], _kept(rows), state.lasts[node])]
-    for _ in range(runs):
+    parts = [([], rows, state.lasts[node])]
+    for _ in range(work_in(rows)):
         parts = [longer for part in parts for longer in _longer(part)]
     return [order for order, _, _ in parts]
 
@@ -88,12 +100,8 @@ def _is_row_at(net, node, value):
     return all([is_index(task, len(net)) and node in net.ends(task) for task in value])
 
 
-def _ready(net, rows, due):
-    """The least task that is due in the rows of all its ends, or None."""
-    heads = [row[at] if at < len(row) else None for row, at in zip(rows, due)]
-    tasks = [task for task in heads if task is not None]
-    ready = [task for task in tasks if all([heads[node] == task for node in net.ends(task)])]
-    return min(ready, default=None)
+def _item(row, at):
+    return row[at] if at < len(row) else None
 
 
 def _ring(rows, due):
@@ -110,11 +118,7 @@ def _ring(rows, due):
 def _longer(part):
     """The beginnings of orders that are one run longer, ascending."""
     order, rows, last = part
-    return [(order + [task], _behind(rows, task), task) for task in open_in(rows, last)]
-
-
-def _behind(rows, task):
-    return _kept([(other, minds, left - int(other == task)) for other, minds, left in rows])
+    return [(order + [task], _kept(behind_in(rows, task)), task) for task in open_in(rows, last)]
 
 
 def _kept(rows):
@@ -130,8 +134,7 @@ def _count(rows, last):
     for _, _, left in kept:
         strides.append(product)
         product *= left + 1
-    if product > MOST_PRODUCT:
-        raise TooMany(product)
+    check_many(product, MOST_PRODUCT)
     totals = [1]
     endings = [[int(task == last) for task, _, _ in kept]]
     for index in range(1, product):

@@ -1,7 +1,7 @@
 """States: a net, how often each task is left, and what each node ran last."""
 
-from otherfirst.checks import check_minded, check_node, check_task
-from otherfirst.errors import InvalidLine, TooMany
+from otherfirst.checks import check_many, check_minded, check_node, check_task
+from otherfirst.errors import InvalidLine
 from otherfirst.kinds import MOST_TASKS, read_decimal
 from otherfirst.local import slacks_in, tight_in, urgent_in, work_in
 from otherfirst.nets import Net, check_lasts, check_load, is_lasts, is_load
@@ -36,9 +36,7 @@ class State:
 def widened(state, tasks, load):
     """The state with further tasks behind its own, left as often as a further load tells."""
     net = state.net
-    count = len(net) + len(tasks)
-    if count > MOST_TASKS:
-        raise TooMany(count)
+    check_many(len(net) + len(tasks), MOST_TASKS)
     wider = Net(net.nodes, net.tasks + tuple(tasks))
     return State(wider, state.load + tuple(load), state.lasts)
 

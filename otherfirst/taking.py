@@ -1,9 +1,8 @@
 """Taking on: loads that grow from nothing, one run at a time, with fine counts behind each."""
 
-from otherfirst.checks import is_task_list
+from otherfirst.checks import check_many, is_task_list
 from otherfirst.decide import check_doable, check_possible
-from otherfirst.errors import NotAbove, TooMany
-from otherfirst.kinds import MOST_RUNS
+from otherfirst.errors import NotAbove
 from otherfirst.nets import check_load
 from otherfirst.rings import rings
 from otherfirst.states import State, slacks, tight
@@ -57,9 +56,7 @@ def climb(state, load):
     """Tasks that can be taken on, one behind the other, from the state on, and lead to the load."""
     check_load(state.net, load)
     check_above(state.load, load)
-    count = sum(load) - state.total()
-    if count > MOST_RUNS:
-        raise TooMany(count)
+    check_many(sum(load) - state.total())
     check_possible(state)
     check_possible(State(state.net, load, state.lasts))
     return _climb(Tally(state.net, state.load, state.lasts), load)

@@ -1,10 +1,10 @@
 """Walks: what falls if a run is struck from a load that can be done."""
 
-from otherfirst.checks import check_node, check_task
+from otherfirst.checks import check_many, check_node, check_task
 from otherfirst.decide import check_possible
-from otherfirst.errors import NothingLeft, TooMany
+from otherfirst.errors import NothingLeft
 from otherfirst.greatest import greatest_within
-from otherfirst.kinds import MOST_RUNS, are_integers, is_index, is_row
+from otherfirst.kinds import are_integers, is_index, is_row
 from otherfirst.lasts import check_sound
 from otherfirst.nets import check_lasts, check_load
 from otherfirst.states import State
@@ -42,8 +42,7 @@ def leaves(net, lasts, load, node):
     bounds = _without(net, load, node)
     goal = greatest_within(net, lasts, bounds)
     count = sum(bounds) - sum(goal)
-    if count > MOST_RUNS:
-        raise TooMany(count)
+    check_many(count)
     return (goal, _strikes(net, Tally(net, bounds, lasts), count))
 
 

@@ -153,6 +153,43 @@ def random_net(rng, most_nodes=4, most_tasks=5):
     return Net(nodes, tasks)
 
 
+def random_tree(rng, nodes):
+    """A plain tree, its tasks in any order."""
+    names = list(range(nodes))
+    rng.shuffle(names)
+    pairs = [sorted((names[node], names[rng.randrange(node)])) for node in range(1, nodes)]
+    rng.shuffle(pairs)
+    return Net(nodes, [((one, True), (other, True)) for one, other in pairs])
+
+
+def random_trees(seed, number, most_nodes=5):
+    rng = random.Random(seed)
+    return [random_tree(rng, rng.randint(1, most_nodes)) for _ in range(number)]
+
+
+def random_plain(rng, most_nodes=4, most_tasks=5):
+    """A plain net, with rings or without, in one part or in several."""
+    nodes = rng.randint(1, most_nodes)
+    tasks = []
+    for _ in range(rng.randint(0, most_tasks) if nodes > 1 else 0):
+        one, other = sorted(rng.sample(range(nodes), 2))
+        tasks.append(((one, True), (other, True)))
+    return Net(nodes, tasks)
+
+
+def random_forest(rng, most_nodes=4, own=2):
+    """A net whose shared tasks make no ring of nodes."""
+    nodes = rng.randint(1, most_nodes)
+    tasks = []
+    for node in range(1, nodes):
+        if rng.random() < 0.8:
+            tasks.append(((rng.randrange(node), rng.random() < 0.8), (node, rng.random() < 0.8)))
+    for _ in range(rng.randint(0, own)):
+        tasks.append(((rng.randrange(nodes), rng.random() < 0.7),))
+    rng.shuffle(tasks)
+    return Net(nodes, tasks)
+
+
 def random_lasts(rng, net, none=0.4):
     return [None if rng.random() < none else rng.choice([None] + net.at(node)) for node in range(net.nodes)]
 

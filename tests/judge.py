@@ -136,3 +136,85 @@ def all_rows(net, longest):
                  for row, lasts in level for task in moves(net, endless, lasts)]
         found += level
     return found
+
+
+def story(net, order):
+    """The own rows of all nodes in a list of tasks."""
+    return tuple(tuple(task for task in order if node in net.ends(task)) for node in range(net.nodes))
+
+
+def rings_of_nodes(net):
+    """All rings of nodes, as lists that begin with any of their nodes."""
+    found = []
+    for size in range(2, net.nodes + 1):
+        for nodes in itertools.permutations(range(net.nodes), size):
+            pairs = [sorted(pair) for pair in zip(nodes, nodes[1:] + nodes[:1])]
+            for tasks in itertools.permutations(range(len(net)), size):
+                if [list(net.ends(task)) for task in tasks] == pairs:
+                    found.append(list(zip(nodes, tasks)))
+    return found
+
+
+def walked(net, start, without=None):
+    """All nodes to which one can walk from a node, without a task."""
+    found = {start}
+    while True:
+        ends = [set(net.ends(task)) for task in range(len(net)) if task != without]
+        wider = found.union(*[pair for pair in ends if pair & found])
+        if wider == found:
+            return found
+        found = wider
+
+
+def way(net, node, other):
+    """The tasks on the way from a node to another one, in a tree."""
+    if node == other:
+        return []
+    for task in net.at(node):
+        far = net.far(task, node)
+        if other in walked(net, far, task) and node not in walked(net, far, task):
+            return [task] + way(net, far, other)
+    raise AssertionError("no way")
+
+
+class Endless:
+    """What can be run in a net in which each task counts as left without end, where that comes to an end."""
+
+    def __init__(self, net):
+        self.net = net
+        self.load = (1,) * len(net)
+        self.known = {}
+
+    def moves(self, lasts):
+        return moves(self.net, self.load, lasts)
+
+    def behind(self, lasts, task):
+        return behind(self.net, self.load, lasts, task)[1]
+
+    def lengths(self, lasts):
+        """The numbers of tasks of all days from these lasts."""
+        lasts = tuple(lasts)
+        if lasts not in self.known:
+            found = set() if self.moves(lasts) else {0}
+            for task in self.moves(lasts):
+                found |= {1 + length for length in self.lengths(self.behind(lasts, task))}
+            self.known[lasts] = found
+        return self.known[lasts]
+
+    def days(self, lasts, length):
+        """All days of so many tasks, ascending."""
+        if length == 0:
+            return [] if self.moves(lasts) else [[]]
+        found = []
+        for task in self.moves(lasts):
+            if length - 1 in self.lengths(self.behind(lasts, task)):
+                found += [[task] + rest for rest in self.days(self.behind(lasts, task), length - 1)]
+        return found
+
+    def reached(self, lasts, tasks):
+        """The lasts behind some tasks, or None if one of them is barred."""
+        for task in tasks:
+            if task not in self.moves(lasts):
+                return None
+            lasts = self.behind(lasts, task)
+        return tuple(lasts)

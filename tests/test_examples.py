@@ -313,5 +313,82 @@ class StageFourExamples(Case):
         self.refuses(Unequal, {"task": 1}, fit, pair, [[0, 1, 1], [1, 0]])
 
 
+class StageFiveExamples(Case):
+    def test_stories(self):
+        from otherfirst.errors import TooMany
+        from otherfirst.nets import Net
+        from otherfirst.states import State
+        from otherfirst.stories import count_stories, forest_ring, is_forest_ring, stories, story_of
+        net = Net(3, [((0, True), (1, True)), ((1, True), (2, True)), ((2, True),)])
+        self.agree([story_of(net, [2, 1, 0]), count_stories(State(net, [1, 1, 1])), forest_ring(net)],
+                   [((0,), (1, 0), (2, 1)), 4, None])
+        self.agree(stories(State(net, [1, 1, 1], [None, 1, None])), [((0,), (0, 1), (1, 2)), ((0,), (0, 1), (2, 1))])
+        pair = Net(2, [((0, True), (1, True)), ((0, False), (1, True))])
+        self.agree([is_forest_ring(pair, [(0, 0), (1, 1)]), is_forest_ring(pair, [(0, 0), (1, 0)]),
+                    stories(State(pair, [1, 1]))],
+                   [True, False, [((0, 1), (0, 1)), ((1, 0), (1, 0))]])
+        self.refuses(TooMany, {"count": 401}, stories, State(net, [401, 0, 0]))
+
+    def test_nexts(self):
+        from otherfirst.errors import NotBehind, NotBetween
+        from otherfirst.nets import Net
+        from otherfirst.nexts import behind, between, is_between
+        from otherfirst.states import State
+        net = Net(3, [((0, True), (1, True)), ((1, True), (2, True)), ((2, True),)])
+        state = State(net, [1, 1, 1])
+        self.agree(between(state, [None, 0, 1]), [0, 1, 2])
+        self.agree([is_between(state, [None, 1, None], [0, 1, 2]), is_between(state, [None, 1, None], [2, 1, 0])],
+                   [False, True])
+        self.agree(behind(net, [1, 1, 1], [0, 0, 1]), [2, 1, 0])
+        self.refuses(NotBetween, {"node": 0}, between, state, [0, None, None])
+        self.refuses(NotBehind, {"node": 2}, behind, net, [1, 1, 1], [0, 0, None])
+
+    def test_heads(self):
+        from otherfirst.errors import NotPlain
+        from otherfirst.heads import capped, core, heads, off_core, tops
+        from otherfirst.nets import Net
+        row = Net(4, [((0, True), (1, True)), ((1, True), (2, True)), ((2, True), (3, True))])
+        fresh = [None, None, None, None]
+        self.agree([heads(row, fresh, 1, 1), heads(row, fresh, 0, 1), heads(row, [0, 0, None, None], 1, 1),
+                    tops(row, fresh)],
+                   [2, 3, 1, (1, 2, 1)])
+        hung = Net(4, [((0, True), (1, True)), ((1, True), (2, True)), ((0, True), (2, True)), ((2, True), (3, True))])
+        self.agree([heads(hung, fresh, 3, 2), tops(hung, fresh), capped(hung, fresh, 5), core(hung),
+                    off_core(hung, fresh)],
+                   [None, (None, None, None, 1), (5, 5, 5, 1), [0, 1, 2], 1])
+        self.agree([tops(hung, [None, None, 3, 3]), off_core(hung, [None, None, 3, 3]), core(row), off_core(row, fresh)],
+                   [(None, None, None, 0), 0, [], 4])
+        self.refuses(NotPlain, {"task": 0}, tops, Net(2, [((0, True), (1, False))]), [None, None])
+
+    def test_gathers(self):
+        from otherfirst.errors import Barred
+        from otherfirst.gathers import gathering, ledger, longest, longest_day, toll, way
+        from otherfirst.nets import Net
+        row = Net(4, [((0, True), (1, True)), ((1, True), (2, True)), ((2, True), (3, True))])
+        fresh = [None, None, None, None]
+        self.agree([way(row, 3, 0), gathering(row, fresh, 0), longest(row, fresh), len(longest_day(row, fresh))],
+                   [[2, 1, 0], 6, (4, 1), 4])
+        self.agree([ledger(row, fresh, [1, 0, 2, 1], 1), ledger(row, fresh, [0, 1], 2)], [[1, 1, 1, 1], [2, 1]])
+        self.agree([toll(row, fresh, 0), toll(row, fresh, 1), longest(row, (None, 1, 1, None))], [1, 0, (3, 1)])
+        self.refuses(Barred, {"nodes": [1, 2]}, toll, row, (None, 1, 1, None), 1)
+
+    def test_days_and_rounds(self):
+        from otherfirst.days import day_of, end_of_day, is_day, middles, outward, shortest_day
+        from otherfirst.errors import NoDay
+        from otherfirst.nets import Net
+        from otherfirst.rounds import count_longest, is_rounds, longest_rounds
+        row = Net(4, [((0, True), (1, True)), ((1, True), (2, True)), ((2, True), (3, True))])
+        self.agree([row.line(), middles(row), outward(row)], ['4: 0!1! 1!2! 2!3!', [1, 2], [1, 4, 2, 1]])
+        self.agree([longest_rounds(row), is_rounds(row, [[0, 2], [1]]), is_rounds(row, [[0, 1]])],
+                   [[[1], [0, 2], [1]], True, False])
+        self.agree([end_of_day(row, 2), shortest_day(row, 2)], [(0, 1, 2, 2), [0, 1, 2]])
+        self.agree([is_day(row, [None] * 4, [1, 0, 2, 1]), is_day(row, [None] * 4, [1, 0, 2]),
+                    is_day(row, [0, 0, 2, 2], [1])],
+                   [True, False, True])
+        star = Net(4, [((0, True), (1, True)), ((0, True), (2, True)), ((0, True), (3, True))])
+        self.agree([count_longest(row), count_longest(star), len(day_of(row, 4))], [1, 6, 4])
+        self.refuses(NoDay, {"least": 3, "most": 4}, day_of, row, 5)
+
+
 if __name__ == "__main__":
     unittest.main()

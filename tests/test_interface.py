@@ -91,6 +91,24 @@ INTERFACE = {
     "rows": {
         "fit": "net rows", "is_fit_ring": "net rows value", "own_rows": "state node", "count_own_rows": "state node",
     },
+    "stories": {
+        "story_of": "net schedule", "stories": "state", "count_stories": "state", "forest_ring": "net",
+        "is_forest_ring": "net value",
+    },
+    "nexts": {"between": "state nexts", "is_between": "state nexts value", "behind": "net load lasts"},
+    "heads": {
+        "heads": "net lasts task node", "tops": "net lasts", "capped": "net lasts number", "core": "net",
+        "off_core": "net lasts",
+    },
+    "gathers": {
+        "way": "net node other", "gathering": "net lasts node", "longest": "net lasts", "longest_day": "net lasts",
+        "ledger": "net lasts schedule node", "toll": "net lasts task",
+    },
+    "days": {
+        "middles": "net", "outward": "net", "is_day": "net lasts value", "end_of_day": "net task",
+        "shortest_day": "net task", "day_of": "net number",
+    },
+    "rounds": {"is_rounds": "net value", "longest_rounds": "net", "count_longest": "net"},
 }
 
 

@@ -19,6 +19,16 @@ def is_index(value, size):
     return is_count(value) and value < size
 
 
+def is_from_to(value, least, most):
+    """Whether a value is an integer from one to another one, both included."""
+    return is_integer(value) and least <= value <= most
+
+
+def is_ascending(row):
+    """Whether each of these integers is greater than the one ahead of it."""
+    return all([one < other for one, other in zip(row, row[1:])])
+
+
 def is_row(value):
     """Whether a value is a list, or a tuple in the place of one."""
     return isinstance(value, (list, tuple))

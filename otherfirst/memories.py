@@ -2,7 +2,7 @@
 
 from otherfirst.decide import check_possible
 from otherfirst.errors import InvalidGroup, InvalidRests
-from otherfirst.kinds import is_count, is_index, is_row, is_tuple_of
+from otherfirst.kinds import is_ascending, is_count, is_index, is_row, is_tuple_of
 from otherfirst.lasts import check_sound
 from otherfirst.nets import check_lasts, is_load
 from otherfirst.rings import rings
@@ -62,9 +62,7 @@ def _is_rests(nodes, value):
 
 
 def _is_group(net, value):
-    if not is_row(value) or not all([is_index(node, net.nodes) for node in value]):
-        return False
-    return all([one < other for one, other in zip(value, value[1:])])
+    return is_row(value) and all([is_index(node, net.nodes) for node in value]) and is_ascending(value)
 
 
 def _minded_last(net, lasts, node):

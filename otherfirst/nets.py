@@ -2,22 +2,24 @@
 
 from otherfirst.checks import check_node, check_task
 from otherfirst.errors import InvalidLasts, InvalidLine, InvalidLoad, InvalidNodes, InvalidTasks, NotAnEnd
-from otherfirst.kinds import MOST_NODES, MOST_TASKS, is_count, is_index, is_integer, is_row, is_tuple_of
+from otherfirst.kinds import MOST_NODES, MOST_TASKS, is_ascending, is_count, is_from_to, is_index, is_row, is_tuple_of
 from otherfirst.kinds import read_decimal
+
+MOST_ENDS = 2
 
 
 class Net:
     """Nodes and tasks. A net is never changed."""
 
     def __init__(self, nodes, tasks):
-        if not _is_nodes(nodes):
+        if not is_from_to(nodes, 1, MOST_NODES):
             raise InvalidNodes(nodes)
-        if not _is_tasks(nodes, tasks):
+        if not are_tasks(nodes, tasks, MOST_TASKS, MOST_ENDS):
             raise InvalidTasks(tasks)
         self.nodes = nodes
         self.tasks = tuple(tasks)
         self._ends = tuple([tuple([end[0] for end in task]) for task in self.tasks])
-        self._marks = tuple([tuple(_marks_of(self.tasks, node)) for node in range(nodes)])
+        self._marks = tuple([tuple(marks_of(self.tasks, node)) for node in range(nodes)])
 
     def __len__(self):
         return len(self.tasks)
@@ -94,30 +96,30 @@ def read_net(line):
     head, colon, rest = line.partition(":")
     nodes = read_decimal(head)
     blank, *words = rest.split(" ")
-    if colon == "" or blank != "" or not _is_nodes(nodes):
+    if colon == "" or blank != "" or not is_from_to(nodes, 1, MOST_NODES):
         raise InvalidLine(line)
     tasks = [_read_task(word) for word in words]
-    if not _is_tasks(nodes, tasks):
+    if not are_tasks(nodes, tasks, MOST_TASKS, MOST_ENDS):
         raise InvalidLine(line)
     return Net(nodes, tasks)
 
 
-def _is_nodes(value):
-    return is_integer(value) and 1 <= value <= MOST_NODES
-
-
-def _is_tasks(nodes, value):
-    if not is_row(value) or len(value) > MOST_TASKS:
+def are_tasks(nodes, value, most, most_ends):
+    """Whether a value is a list of at most so many tasks, with at most so many ends each, on so many nodes."""
+    if not is_row(value) or len(value) > most:
         return False
-    return all([_is_task(nodes, task) for task in value])
+    return all([_is_task(nodes, task, most_ends) for task in value])
 
 
-def _is_task(nodes, value):
-    if not is_tuple_of(value, 1) and not is_tuple_of(value, 2):
+def marks_of(tasks, node):
+    """A tuple (task, minds) for each of the tasks at a node, ascending."""
+    return [(at, minds) for at, task in enumerate(tasks) for end, minds in task if end == node]
+
+
+def _is_task(nodes, value, most_ends):
+    if not isinstance(value, tuple) or not 1 <= len(value) <= most_ends:
         return False
-    if not all([_is_end(nodes, end) for end in value]):
-        return False
-    return len(value) == 1 or value[0][0] < value[1][0]
+    return all([_is_end(nodes, end) for end in value]) and is_ascending([node for node, _ in value])
 
 
 def _is_end(nodes, value):
@@ -126,10 +128,6 @@ def _is_end(nodes, value):
 
 def _is_last(net, node, value):
     return value is None or (is_index(value, len(net)) and node in net.ends(value))
-
-
-def _marks_of(tasks, node):
-    return [(at, minds) for at, task in enumerate(tasks) for end, minds in task if end == node]
 
 
 def _end_word(end):

@@ -5,7 +5,7 @@ from math import comb
 from otherfirst.days import lasts_behind_all
 from otherfirst.gathers import check_tree, longest_day
 from otherfirst.heads import tops
-from otherfirst.kinds import is_index, is_row
+from otherfirst.kinds import is_ascending, is_index, is_row
 
 
 def is_rounds(net, value):
@@ -50,7 +50,7 @@ def _is_round(net, value):
     if not is_row(value) or len(value) == 0 or not all([is_index(task, len(net)) for task in value]):
         return False
     nodes = [node for task in value for node in net.ends(task)]
-    return list(value) == sorted(value) and len(set(nodes)) == len(nodes)
+    return is_ascending(value) and len(set(nodes)) == len(nodes)
 
 
 def _count_orders(counts):

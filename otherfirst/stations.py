@@ -2,7 +2,7 @@
 
 from otherfirst.checks import check_node
 from otherfirst.errors import InvalidLast, InvalidLetter, InvalidNumber, InvalidRows, InvalidTask, NotAsking
-from otherfirst.kinds import MOST_NODES, MOST_TASKS, is_count, is_index, is_integer, is_row, is_tuple_of
+from otherfirst.kinds import MOST_NODES, MOST_TASKS, is_ascending, is_count, is_index, is_integer, is_row, is_tuple_of
 from otherfirst.local import addable_in, open_in
 
 
@@ -244,8 +244,7 @@ def is_letter(station, value):
 def _is_rows(number, value):
     if not is_row(value) or not all([_is_row_of(number, row) for row in value]):
         return False
-    tasks = [row[0] for row in value]
-    return all([one < other for one, other in zip(tasks, tasks[1:])])
+    return is_ascending([row[0] for row in value])
 
 
 def _is_row_of(number, value):

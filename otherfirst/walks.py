@@ -39,7 +39,7 @@ def leaves(net, lasts, load, node):
     _check_at(net, lasts, load, node)
     check_sound(net, lasts)
     check_possible(State(net, load, lasts))
-    bounds = _without(net, load, node)
+    bounds = without(net, load, node)
     goal = greatest_within(net, lasts, bounds)
     count = sum(bounds) - sum(goal)
     check_many(count)
@@ -51,7 +51,7 @@ def is_strikes(net, lasts, load, node, value):
     _check_at(net, lasts, load, node)
     if not is_row(value):
         return False
-    tally = Tally(net, _without(net, load, node), lasts)
+    tally = Tally(net, without(net, load, node), lasts)
     for item in value:
         if not are_integers(item, 2):
             return False
@@ -60,6 +60,11 @@ def is_strikes(net, lasts, load, node, value):
             return False
         tally.change(task, -1)
     return tally.is_fine()
+
+
+def without(net, load, node):
+    """The load without the runs of all tasks at a node."""
+    return [0 if node in net.ends(task) else left for task, left in enumerate(load)]
 
 
 def _check_at(net, lasts, load, node):
@@ -79,11 +84,6 @@ def _walk(net, tally, node):
         walk.append((node, task))
         node = net.far(task, node)
     return walk
-
-
-def _without(net, load, node):
-    """The load without the runs of all tasks at a node."""
-    return [0 if node in net.ends(task) else left for task, left in enumerate(load)]
 
 
 def _strikes(net, tally, count):

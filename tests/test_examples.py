@@ -390,5 +390,75 @@ class StageFiveExamples(Case):
         self.refuses(NoDay, {"least": 3, "most": 4}, day_of, row, 5)
 
 
+class StageSixExamples(Case):
+    def test_heights(self):
+        from otherfirst.heights import count_row_loads, row_index, row_load, row_net
+        from otherfirst.nets import Net
+        row = row_net(4)
+        self.agree([row.line(), row == Net(4, [((0, True), (1, True)), ((1, True), (2, True)), ((2, True), (3, True))])],
+                   ['4: 0!1! 1!2! 2!3!', True])
+        self.agree([count_row_loads(4), row_load(4, 8), row_index(4, [1, 1, 0])], [9, (1, 2, 1), 6])
+
+    def test_gangs(self):
+        from otherfirst.errors import NoSchedule
+        from otherfirst.gangs import Gang, gang_moves, gang_often, gang_schedule, is_gang_fence
+        pairs = [((0, True), (1, True)), ((1, True), (2, True)), ((0, True), (2, True))]
+        gang = Gang(3, pairs + [((0, True), (1, True), (2, True))])
+        fresh = [None, None, None]
+        self.agree([gang_often(gang, [1, 1, 1, 3], fresh), gang_often(gang, [0, 1, 1, 3], fresh),
+                    gang_moves(gang, [1, 0, 1, 2], [3, 3, 3])],
+                   [[], [(0, 3), (1, 3)], [0, 2]])
+        self.agree(is_gang_fence(gang, [0, 0, 0, 1], [3, None, None], [((0, 0, 0, 1), (3, None, None))]), True)
+        with self.assertRaises(NoSchedule) as caught:
+            gang_schedule(gang, [1, 1, 1, 3], fresh)
+        self.agree(is_gang_fence(gang, [1, 1, 1, 3], fresh, caught.exception.fence), True)
+
+    def test_tints(self):
+        from otherfirst.tints import tie_number, tintings, tints_of, web_gang
+        square = [(0, 1), (1, 2), (2, 3), (0, 3)]
+        self.agree([tie_number(4, square), web_gang(4, square)[1], tintings(4, square),
+                    tintings(3, [(0, 1), (0, 2), (1, 2)])],
+                   [2, (1, 1, 1, 1, 3), [[0, 1, 0, 1], [1, 0, 1, 0]], []])
+        self.agree(tints_of(4, square, [4, 3, 1, 4, 2, 0, 4]), [1, 0, 1, 0])
+
+    def test_air_and_clubs(self):
+        from otherfirst.air import air_defect, air_keeping, air_schedule
+        from otherfirst.clubs import is_club_fence
+        from otherfirst.nets import Net
+        from otherfirst.states import State
+        net = Net(3, [((0, False), (1, False)), ((0, False), (2, False)), ((1, True),)])
+        self.agree([air_schedule(State(net, [2, 0, 1]), [0]), air_keeping(State(net, [2, 0, 1]), [0]),
+                    air_defect(State(net, [3, 0, 1]), [0])],
+                   [[0, 2, 0], [0], ('close', 0)])
+        self.agree(is_club_fence(State(net, [1, 0, 0], [1, None, 1]), [0, 5, 5], [((1, 0, 0), (1, None, 1))]), True)
+
+    def test_desk(self):
+        from otherfirst.desk import Desk
+        from otherfirst.errors import Barred
+        from otherfirst.nets import Net
+        desk = Desk(Net(2, [((0, True), (1, True)), ((0, True),), ((1, True),)]))
+        self.agree([desk.wish(0, 2), desk.wishes(), desk.wish(1), desk.load()],
+                   [[('more', 0)], (1, 0, 0), [('more', 1)], (1, 1, 0)])
+        self.agree([desk.wish(2, number=2), desk.load(), desk.wishes(), desk.next_runs()],
+                   [[('more', 2), ('more', 0), ('more', 2)], (2, 1, 2), (0, 0, 0), [0, 2]])
+        self.agree([desk.run(0), desk.strike(1), desk.load(), desk.undo(), desk.load()],
+                   [[('run', 0)], [('strike', 1), ('strike', 0), ('strike', 2)], (0, 0, 1), None, (1, 1, 2)])
+        self.agree([desk.tried([('leave', 0)]).load(), desk.lasts(), desk.forecast(), desk.greatest_within([9, 1, 9])],
+                   [(0, 0, 1), (0, 0), [1, 2, 0, 2], (1, 1, 2)])
+        self.agree([desk.forget(1), desk.journal()],
+                   [[('forget', 1)], ['wish 0 2', 'wish 1 1', 'wish 2 2', 'run 0', 'forget 1']])
+        self.refuses(Barred, {"nodes": [0]}, desk.run, 0)
+
+    def test_journal(self):
+        from otherfirst.errors import InvalidLine
+        from otherfirst.journal import read_desk
+        from otherfirst.nets import Net
+        net = Net(2, [((0, True), (1, True)), ((0, True),), ((1, True),)])
+        desk = read_desk(net, None, ["wish 0 2", "wish 1 1", "forget 1"])
+        self.agree([desk.load(), desk.wishes(), desk == read_desk(net, (None, None), desk.journal())],
+                   [(1, 1, 0), (1, 0, 0), True])
+        self.refuses(InvalidLine, {"given": 'run 00'}, read_desk, net, None, ["wish 0 401", "run 00"])
+
+
 if __name__ == "__main__":
     unittest.main()

@@ -6,11 +6,11 @@ import unittest
 
 INTERFACE = {
     "nets": {
-        "Net": "nodes tasks", "Net.ends": "task", "Net.at": "node", "Net.far": "task node", "Net.minds": "task node",
+        "Net": "nodes tasks", "Net.__len__": "", "Net.__eq__": "other", "Net.ends": "task", "Net.at": "node", "Net.far": "task node", "Net.minds": "task node",
         "Net.line": "", "is_load": "net value", "is_lasts": "net value", "read_net": "line",
     },
     "states": {
-        "State": "net load lasts=None", "State.total": "", "State.line": "", "work": "state node",
+        "State": "net load lasts=None", "State.__eq__": "other", "State.total": "", "State.line": "", "work": "state node",
         "slack": "state task node", "slacks": "state", "tight": "state node", "urgent": "state node", "fine": "state",
         "too_often": "state", "read_state": "net line",
     },
@@ -109,6 +109,29 @@ INTERFACE = {
         "shortest_day": "net task", "day_of": "net number",
     },
     "rounds": {"is_rounds": "net value", "longest_rounds": "net", "count_longest": "net"},
+    "heights": {
+        "row_net": "nodes", "count_row_loads": "nodes", "row_load": "nodes index", "row_index": "nodes load",
+    },
+    "gangs": {
+        "Gang": "nodes tasks", "Gang.__eq__": "other", "gang_often": "gang load lasts", "gang_moves": "gang load lasts",
+        "gang_schedule": "gang load lasts", "is_gang_fence": "gang load lasts value",
+    },
+    "tints": {
+        "tie_number": "nodes ties", "web_gang": "nodes ties", "tinted_schedule": "nodes ties tints",
+        "tints_of": "nodes ties schedule", "tintings": "nodes ties",
+    },
+    "clubs": {"club_schedule": "state clubs", "is_club_fence": "state clubs value"},
+    "air": {
+        "touching": "state task", "air_defect": "state air", "air_schedule": "state air", "air_keeping": "state air",
+        "is_air_schedule": "state air value",
+    },
+    "desk": {
+        "Desk": "net lasts=None", "Desk.__eq__": "other", "Desk.state": "", "Desk.load": "", "Desk.lasts": "",
+        "Desk.wishes": "", "Desk.wish": "task number=1", "Desk.run": "task", "Desk.strike": "task", "Desk.leave": "node",
+        "Desk.forget": "node", "Desk.undo": "", "Desk.redo": "", "Desk.tried": "deeds", "Desk.journal": "",
+        "Desk.forecast": "", "Desk.next_runs": "", "Desk.greatest_within": "bounds",
+    },
+    "journal": {"read_desk": "net lasts lines"},
 }
 
 

@@ -31,7 +31,7 @@ NODES = (
     ast.Pass, ast.Name, ast.Attribute, ast.Subscript, ast.Slice, ast.Starred, ast.Constant, ast.List, ast.Tuple,
     ast.Dict, ast.Set, ast.ListComp, ast.SetComp, ast.DictComp, ast.comprehension, ast.BoolOp, ast.BinOp, ast.UnaryOp,
     ast.Compare, ast.IfExp, ast.Call, ast.keyword, ast.JoinedStr, ast.FormattedValue, ast.expr_context, ast.boolop,
-    ast.operator, ast.unaryop, ast.cmpop,
+    ast.operator, ast.unaryop, ast.cmpop, ast.Lambda,
 )
 MAGIC = {"__init__", "__eq__", "__len__"}
 
@@ -93,7 +93,13 @@ class StatementsTest(unittest.TestCase):
             for node in tree.body[1:]:
                 self.assertIsInstance(node, (ast.ImportFrom, ast.FunctionDef, ast.ClassDef, ast.Assign), name)
                 if isinstance(node, ast.Assign):
-                    self.assertIsInstance(node.value, ast.Constant, name)
+                    parts = node.value.keys + node.value.values if isinstance(node.value, ast.Dict) else [node.value]
+                    for part in parts:
+                        self.assertIsInstance(part, ast.Constant, name)
+
+    def test_lambdas_stand_on_lines_of_their_own(self):
+        places = [(name, node.lineno) for name, node in every(ast.Lambda)]
+        self.assertEqual(len(places), len(set(places)))
 
     def test_no_decorators_and_no_annotations(self):
         for name, node in every((ast.FunctionDef, ast.ClassDef)):

@@ -15,7 +15,7 @@ from otherfirst.trees import lengths, toward
 def middles(net):
     """The nodes to which the ways of all nodes have the least sum of lengths, ascending."""
     check_tree(net)
-    sums = [sum(lengths(net, toward(net, node)).values()) for node in range(net.nodes)]
+    sums = [sum(list(lengths(net, toward(net, node)).values())) for node in range(net.nodes)]
     return [node for node, number in enumerate(sums) if number == min(sums)]
 
 

@@ -67,7 +67,8 @@ def _check_sound_plain(net, lasts):
 def _heads(net, lasts, task, node):
     first = toward(net, node, task)
     within = [other for other in range(len(net)) if all([end in first for end in net.ends(other)])]
-    if net.far(task, node) in first or len(within) != len(first) - 1:
+    # If the other end of the task is among these nodes, so is the task, as one too many.
+    if len(within) != len(first) - 1:
         return None
     return len([at for at in first if lasts[at] != first[at]])
 

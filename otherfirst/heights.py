@@ -3,7 +3,7 @@
 from otherfirst.decide import can_be_done
 from otherfirst.errors import InvalidIndex, InvalidLoad, InvalidNodes
 from otherfirst.kinds import MOST_NODES, is_from_to, is_index
-from otherfirst.nets import Net, is_load
+from otherfirst.nets import Net
 from otherfirst.states import State
 
 
@@ -39,8 +39,7 @@ def row_load(nodes, index):
 
 def row_index(nodes, load):
     """The index of one of these loads."""
-    net = row_net(nodes)
-    if not is_load(net, load) or not can_be_done(State(net, load)):
+    if not can_be_done(State(row_net(nodes), load)):
         raise InvalidLoad(load)
     walks = _walks(nodes)
     index = 0

@@ -12,14 +12,8 @@ from otherfirst.stories import forest_ring
 from tests import judge
 from tests.helpers import EMPTY, LONG, PAIR, TRIANGLE, Case, any_values, lasts_of, no_lasts_of, no_tasks_of
 from tests.helpers import random_lasts, random_plain, random_tree, random_trees
+from tests.test_gathers import ALONE, APART, FRESH, LINE, RINGED, STAR, UNMINDED
 
-LINE = Net(4, [((0, True), (1, True)), ((1, True), (2, True)), ((2, True), (3, True))])
-STAR = Net(4, [((0, True), (1, True)), ((0, True), (2, True)), ((0, True), (3, True))])
-ALONE = Net(1, [])
-FRESH = [None] * 4
-APART = Net(4, [((0, True), (2, True)), ((1, True), (3, True))])
-RINGED = Net(4, list(PAIR.tasks) + [((2, True), (3, True))])
-UNMINDED = Net(4, list(PAIR.tasks) + [((2, True), (3, False))])
 NO_COUNTS = [None, True, False, -1, -LONG, "", "0", [], [0], (0,), {}, 0.0, 1.0, LINE]
 
 

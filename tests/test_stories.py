@@ -253,6 +253,10 @@ class ForestTest(Case):
                       [(0, 0), (1, 1), (0, 0), (1, 1)], [(0, 0, 0), (1, 1, 1)], [(0, 0), (1, 1.0)], [(0, 0), (1, None)],
                       [(0, LONG), (1, 1)], {}, None, "", [0, 1], [(0, 0), None]]:
             self.agree(is_forest_ring(TWIN, value), False)
+        # Different tasks, but nodes that come twice.
+        four = Net(2, [((0, True), (1, True))] * 4)
+        self.agree(is_forest_ring(four, [(0, 0), (1, 1), (0, 2), (1, 3)]), False)
+        self.agree(is_forest_ring(four, [(0, 3), (1, 1)]), True)
         own = Net(2, [((0, True), (1, True)), ((1, True),)])
         self.agree([is_forest_ring(own, [(0, 0), (1, 1)]), is_forest_ring(own, [(1, 1), (0, 0)])], [False, False])
 

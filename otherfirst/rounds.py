@@ -1,11 +1,10 @@
 """Rounds: tasks of a tree that are run at one time, and the longest days in as few rounds as can be."""
 
-from math import comb
-
 from otherfirst.days import lasts_behind_all
 from otherfirst.gathers import check_tree, longest_day
 from otherfirst.heads import tops
 from otherfirst.kinds import is_ascending, is_index, is_row
+from otherfirst.local import count_in
 
 
 def is_rounds(net, value):
@@ -38,7 +37,7 @@ def count_longest(net):
     load = tops(net, _fresh(net))
     number = 1
     for node in range(net.nodes):
-        number *= _count_orders([load[task] for task in net.at(node)])
+        number *= count_in([(task, True, load[task]) for task in net.at(node)], None)
     return number
 
 
@@ -51,18 +50,3 @@ def _is_round(net, value):
         return False
     nodes = [node for task in value for node in net.ends(task)]
     return is_ascending(value) and len(set(nodes)) == len(nodes)
-
-
-def _count_orders(counts):
-    """The number of orders of so many runs of each task in which no task stands twice running."""
-    # The runs of each task are joined to blocks in all ways, and the blocks put in any order. What has a joint is
-    # taken away again, as each joint changes the sign. At each index stands the sum for so many blocks.
-    sums = [1]
-    for count in counts:
-        longer = [0] * (len(sums) + count)
-        for others, number in enumerate(sums):
-            for blocks in range(1, count + 1):
-                sign = 1 if (count - blocks) % 2 == 0 else -1
-                longer[others + blocks] += sign * number * comb(count - 1, blocks - 1) * comb(others + blocks, blocks)
-        sums = longer
-    return sum(sums)

@@ -4,7 +4,7 @@ from otherfirst.checks import check_many, check_node
 from otherfirst.cycles import way_from
 from otherfirst.errors import InvalidRows, NoFit, Unequal
 from otherfirst.kinds import MOST_RUNS, are_integers, is_index, is_row
-from otherfirst.local import behind_in, open_in, work_in
+from otherfirst.local import behind_in, count_in, open_in, work_in
 from otherfirst.moments import moments_of
 from otherfirst.states import rows_of
 
@@ -127,22 +127,9 @@ def _kept(rows):
 
 
 def _count(rows, last):
-    """The number of orders of the runs in these rows, counted up from nothing, by the task that comes last."""
-    kept = _kept(rows)
+    """The number of orders of the runs in these rows, unless the product of the node is too great."""
     product = 1
-    strides = []
-    for _, _, left in kept:
-        strides.append(product)
+    for _, _, left in rows:
         product *= left + 1
     check_many(product, MOST_PRODUCT)
-    totals = [1]
-    endings = [[int(task == last) for task, _, _ in kept]]
-    for index in range(1, product):
-        ending = [0] * len(kept)
-        for at, (_, minds, left) in enumerate(kept):
-            ahead = index - strides[at]
-            if index // strides[at] % (left + 1) > 0:
-                ending[at] = totals[ahead] - (endings[ahead][at] if minds else 0)
-        totals.append(sum(ending))
-        endings.append(ending)
-    return totals[-1]
+    return count_in(rows, last)
